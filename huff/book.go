@@ -15,12 +15,22 @@ type book struct {
 // newBook returns the book of codes that have these lengths.
 func newBook(lengths [256]uint8) book {
 	var made book
-	for length := 1; length <= longest; length++ {
-		for b := range lengths {
-			if int(lengths[b]) == length {
-				made.counts[length]++
-				made.bytes = append(made.bytes, byte(b))
-			}
+	coded := 0
+	for _, length := range lengths {
+		if length > 0 {
+			made.counts[length]++
+			coded++
+		}
+	}
+	var next [longest + 1]int // where the next byte of each length goes
+	for length := 1; length < longest; length++ {
+		next[length+1] = next[length] + made.counts[length]
+	}
+	made.bytes = make([]byte, coded)
+	for b, length := range lengths {
+		if length > 0 {
+			made.bytes[next[length]] = byte(b)
+			next[length]++
 		}
 	}
 	return made
