@@ -1,9 +1,10 @@
-package alu
+package alu_test
 
 import (
 	"slices"
 	"testing"
 
+	"rondeau/alu"
 	"rondeau/api"
 )
 
@@ -27,7 +28,7 @@ func TestDo(t *testing.T) {
 		{api.OLt, 1, 2, 1}, {api.OLt, 2, 2, 0}, {api.OLt, top, 0, 0}, {api.OLt, 0, top, 1},
 		{api.OEq, 2, 2, 1}, {api.OEq, 2, 3, 0}, {api.OEq, top, top, 1},
 	} {
-		if got, ok := Do(s.op, s.a, s.b); got != s.want || !ok {
+		if got, ok := alu.Do(s.op, s.a, s.b); got != s.want || !ok {
 			t.Error(s, got, ok)
 		}
 	}
@@ -37,28 +38,28 @@ func TestDo(t *testing.T) {
 func TestWhichOps(t *testing.T) {
 	for op := -3; op < 40; op++ {
 		want := op >= 3 && op <= 14
-		if Is(op) != want {
-			t.Error(op, Is(op))
+		if alu.Is(op) != want {
+			t.Error(op, alu.Is(op))
 		}
-		got, ok := Do(op, 6, 3)
+		got, ok := alu.Do(op, 6, 3)
 		if ok != want || !ok && got != 0 {
 			t.Error(op, got, ok)
 		}
 	}
 	for _, op := range []int{-1 << 63, 1<<63 - 1, 1<<32 + 3} {
-		if got, ok := Do(op, 6, 3); Is(op) || got != 0 || ok {
+		if got, ok := alu.Do(op, 6, 3); alu.Is(op) || got != 0 || ok {
 			t.Error(op, got, ok)
 		}
 	}
-	if got := Ops(); !slices.Equal(got, []int{3, 4, 5, 6, 7, 8, 9, 10, 11, 12, 13, 14}) {
+	if got := alu.Ops(); !slices.Equal(got, []int{3, 4, 5, 6, 7, 8, 9, 10, 11, 12, 13, 14}) {
 		t.Error(got)
 	}
 }
 
 // Rule 5: each list of operations is new.
 func TestOpsAreNew(t *testing.T) {
-	Ops()[0] = 99
-	if Ops()[0] != 3 {
-		t.Error(Ops())
+	alu.Ops()[0] = 99
+	if alu.Ops()[0] != 3 {
+		t.Error(alu.Ops())
 	}
 }

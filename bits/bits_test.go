@@ -1,15 +1,16 @@
-package bits
+package bits_test
 
 import (
 	"math/rand"
 	"testing"
 
 	"rondeau/api"
+	"rondeau/bits"
 )
 
 // P6.1: bits fill bytes from the most significant one on.
 func TestPut(t *testing.T) {
-	var w Writer
+	var w bits.Writer
 	if w.Len() != 0 || w.String() != "" {
 		t.Error(w.Len(), w.String())
 	}
@@ -34,14 +35,14 @@ func TestPut(t *testing.T) {
 
 // P6.1: wrong counts, and a nil writer.
 func TestPutErrors(t *testing.T) {
-	var w Writer
+	var w bits.Writer
 	w.Put(1, 1)
 	for _, count := range []int{-1, 65, -1 << 63, 1<<63 - 1} {
 		if e := w.Put(1, count); e != api.ErrArg || w.Len() != 1 || w.String() != "\x80" {
 			t.Error(count, e, w.Len())
 		}
 	}
-	var none *Writer
+	var none *bits.Writer
 	if e := none.Put(1, -1); e != api.ErrNil {
 		t.Error(e)
 	}
@@ -52,7 +53,7 @@ func TestPutErrors(t *testing.T) {
 
 // P6.2: bits are read as numbers.
 func TestTake(t *testing.T) {
-	r := New("\xb2\x80\x00\x00\x00\x00\x00\x00\x03")
+	r := bits.New("\xb2\x80\x00\x00\x00\x00\x00\x00\x03")
 	if n, e := r.Take(3); n != 5 || e != api.OK || r.At() != 3 {
 		t.Error(n, e, r.At())
 	}
@@ -72,7 +73,7 @@ func TestTake(t *testing.T) {
 
 // P6.2: with an error nothing is read.
 func TestTakeErrors(t *testing.T) {
-	r := New("\xff")
+	r := bits.New("\xff")
 	r.Take(2)
 	for _, count := range []int{-1, 65, -1 << 63, 1<<63 - 1} {
 		if n, e := r.Take(count); n != 0 || e != api.ErrArg || r.At() != 2 {
@@ -87,7 +88,7 @@ func TestTakeErrors(t *testing.T) {
 	if n, e := r.Take(6); n != 63 || e != api.OK {
 		t.Error(n, e)
 	}
-	var none *Reader
+	var none *bits.Reader
 	if n, e := none.Take(-1); n != 0 || e != api.ErrNil {
 		t.Error(n, e)
 	}
@@ -115,7 +116,7 @@ func TestDone(t *testing.T) {
 		{"\x80\x00", 8, api.ErrForm},
 		{"\x80\x00", 9, api.OK},
 	} {
-		r := New(s.text)
+		r := bits.New(s.text)
 		r.Take(s.read)
 		if e := r.Done(); e != s.want || r.At() != s.read {
 			t.Errorf("%x from %d: %d at %d", s.text, s.read, e, r.At())
@@ -130,7 +131,7 @@ func TestDone(t *testing.T) {
 func TestPutIsRead(t *testing.T) {
 	random := rand.New(rand.NewSource(6))
 	for range 200 {
-		var w Writer
+		var w bits.Writer
 		var numbers []uint64
 		var counts []int
 		total := 0
@@ -144,7 +145,7 @@ func TestPutIsRead(t *testing.T) {
 		if w.Len() != total || len(w.String()) != (total+7)/8 {
 			t.Fatal(w.Len(), total, len(w.String()))
 		}
-		r := New(w.String())
+		r := bits.New(w.String())
 		for i, count := range counts {
 			if n, e := r.Take(count); n != numbers[i] || e != api.OK {
 				t.Fatal(n, e, numbers[i], count)

@@ -1,4 +1,4 @@
-package check
+package check_test
 
 import (
 	"math/rand"
@@ -6,6 +6,7 @@ import (
 	"testing"
 
 	"rondeau/api"
+	"rondeau/check"
 	"rondeau/listing"
 )
 
@@ -34,7 +35,7 @@ func TestValid(t *testing.T) {
 		"thread\njmp 1\nthread\njz r1 2\njnz r1 0\n",
 	} {
 		p := program(t, text)
-		if thread, at, e := Check(p); thread != 0 || at != 0 || e != api.OK || !Right(p) {
+		if thread, at, e := check.Check(p); thread != 0 || at != 0 || e != api.OK || !check.Right(p) {
 			t.Error(text, thread, at, e)
 		}
 	}
@@ -43,7 +44,7 @@ func TestValid(t *testing.T) {
 		full[i] = api.Instr{Op: api.OJmp, K: 256}
 	}
 	p := api.Program{Rings: slices.Repeat([]api.Ring{{Kind: 1, Cap: 1, Readers: 1}}, 8), Threads: slices.Repeat([][]api.Instr{full}, 8)}
-	if thread, at, e := Check(p); thread != 0 || at != 0 || e != api.OK {
+	if thread, at, e := check.Check(p); thread != 0 || at != 0 || e != api.OK {
 		t.Error(thread, at, e)
 	}
 }
@@ -84,8 +85,8 @@ func TestCheck(t *testing.T) {
 		{api.Program{Rings: []api.Ring{queue}, Threads: [][]api.Instr{{{Op: api.ORecv, K: 1}}}}, answer{0, 0, api.ErrRing}},
 		{api.Program{Rings: []api.Ring{{Kind: 2, Cap: 1, Readers: 3}}, Threads: [][]api.Instr{{{Op: api.ORecv, K: 2}, {Op: api.ORecv, K: 3}}}}, answer{0, 1, api.ErrRing}},
 	} {
-		thread, at, e := Check(s.program)
-		if (answer{thread, at, e}) != s.want || Right(s.program) {
+		thread, at, e := check.Check(s.program)
+		if (answer{thread, at, e}) != s.want || check.Right(s.program) {
 			t.Error(s.program, thread, at, e, s.want)
 		}
 	}
@@ -110,10 +111,10 @@ func TestReach(t *testing.T) {
 		{"thread\nset r1 2\njmp 0\nhalt\n", []bool{true, true, false, false}, false},
 	} {
 		p := program(t, s.text)
-		if got, e := Reach(p, 0); !slices.Equal(got, s.want) || e != api.OK {
+		if got, e := check.Reach(p, 0); !slices.Equal(got, s.want) || e != api.OK {
 			t.Error(s.text, got, e)
 		}
-		if got, e := Ends(p, 0); got != s.ends || e != api.OK {
+		if got, e := check.Ends(p, 0); got != s.ends || e != api.OK {
 			t.Error(s.text, got, e)
 		}
 	}
@@ -131,12 +132,12 @@ func TestTouches(t *testing.T) {
 		{"thread\njmp 2\nclose 3\nclose 1\nhalt\nclose 0\n", []int{1}},
 		{"thread\nset r1 1\nsee r1\n", nil},
 	} {
-		if got, e := Touches(program(t, rings+s.text), 0); !slices.Equal(got, s.want) || e != api.OK {
+		if got, e := check.Touches(program(t, rings+s.text), 0); !slices.Equal(got, s.want) || e != api.OK {
 			t.Error(s.text, got, e)
 		}
 	}
 	p := program(t, rings+"thread\nclose 0\nthread\nclose 1\n")
-	if got, e := Touches(p, 1); !slices.Equal(got, []int{1}) || e != api.OK {
+	if got, e := check.Touches(p, 1); !slices.Equal(got, []int{1}) || e != api.OK {
 		t.Error(got, e)
 	}
 }
@@ -150,13 +151,13 @@ func TestErrors(t *testing.T) {
 		thread  int
 		want    api.Errno
 	}{{wrong, 0, api.ErrArg}, {wrong, 9, api.ErrArg}, {right, 1, api.ErrRange}, {right, -1, api.ErrRange}, {api.Program{}, 0, api.ErrArg}} {
-		if got, e := Reach(s.program, s.thread); len(got) != 0 || e != s.want {
+		if got, e := check.Reach(s.program, s.thread); len(got) != 0 || e != s.want {
 			t.Error(s, got, e)
 		}
-		if got, e := Ends(s.program, s.thread); got || e != s.want {
+		if got, e := check.Ends(s.program, s.thread); got || e != s.want {
 			t.Error(s, got, e)
 		}
-		if got, e := Touches(s.program, s.thread); len(got) != 0 || e != s.want {
+		if got, e := check.Touches(s.program, s.thread); len(got) != 0 || e != s.want {
 			t.Error(s, got, e)
 		}
 	}
@@ -189,7 +190,7 @@ func TestReachIsClosed(t *testing.T) {
 				}
 			}
 		}
-		if got, e := Reach(threads(l), 0); !slices.Equal(got, want) || e != api.OK {
+		if got, e := check.Reach(threads(l), 0); !slices.Equal(got, want) || e != api.OK {
 			t.Fatal(l, got, want, e)
 		}
 	}

@@ -1,4 +1,4 @@
-package chunk
+package chunk_test
 
 import (
 	"math/rand"
@@ -6,6 +6,7 @@ import (
 	"testing"
 
 	"rondeau/api"
+	"rondeau/chunk"
 	"rondeau/event"
 	"rondeau/huff"
 	"rondeau/varint"
@@ -34,14 +35,14 @@ func TestStreams(t *testing.T) {
 			"\x01\x01\x04" + "\x05\x08\x00\x09\x00\x0a\x00\x0b\x00\x0d\x00" + "\x01\x03\x00" + "\x01\x08" + "\x03\x12\x01\x00"},
 	} {
 		l := events(t, s.text)
-		if got, e := Streams(l); got != s.want || e != api.OK {
+		if got, e := chunk.Streams(l); got != s.want || e != api.OK {
 			t.Errorf("%q: %x %d", s.text, got, e)
 		}
-		packed, e := Print(l)
+		packed, e := chunk.Print(l)
 		if packed != huff.Pack(s.want) || e != api.OK {
 			t.Errorf("%q: %x %d", s.text, packed, e)
 		}
-		if got, e := Read(packed, len(l)); !event.Same(got, l) || e != api.OK {
+		if got, e := chunk.Read(packed, len(l)); !event.Same(got, l) || e != api.OK {
 			t.Errorf("%q: %v %d", s.text, got, e)
 		}
 	}
@@ -57,10 +58,10 @@ func TestPrintErrors(t *testing.T) {
 		{[]api.Event{halt, {}}, api.ErrForm}, {[]api.Event{{Kind: api.EHalt, Thread: 8}}, api.ErrForm},
 		{make([]api.Event, 65537), api.ErrLong}, {slices.Repeat([]api.Event{halt}, 65537), api.ErrLong},
 	} {
-		if got, e := Print(s.events); got != "" || e != s.want {
+		if got, e := chunk.Print(s.events); got != "" || e != s.want {
 			t.Error(len(s.events), e)
 		}
-		if got, e := Streams(s.events); got != "" || e != s.want {
+		if got, e := chunk.Streams(s.events); got != "" || e != s.want {
 			t.Error(len(s.events), e)
 		}
 	}
@@ -68,7 +69,7 @@ func TestPrintErrors(t *testing.T) {
 
 // P21.2: how many events may be read.
 func TestMost(t *testing.T) {
-	packed, _ := Print(events(t, "0 halt\n1 halt\n"))
+	packed, _ := chunk.Print(events(t, "0 halt\n1 halt\n"))
 	for _, s := range []struct {
 		text string
 		most int
@@ -77,20 +78,20 @@ func TestMost(t *testing.T) {
 		{packed, -1, api.ErrArg}, {packed, 65537, api.ErrArg}, {"", -1, api.ErrArg}, {"", 65537, api.ErrArg},
 		{packed, 0, api.ErrForm}, {packed, 1, api.ErrForm}, {packed, 2, api.OK}, {packed, 65536, api.OK}, {"", 5, api.ErrForm},
 	} {
-		if l, e := Read(s.text, s.most); e != s.want || (e == api.OK) != (len(l) == 2) {
+		if l, e := chunk.Read(s.text, s.most); e != s.want || (e == api.OK) != (len(l) == 2) {
 			t.Error(s.most, l, e)
 		}
 	}
 	full := slices.Repeat([]api.Event{{Kind: api.EHalt}}, 65536)
-	packed, _ = Print(full)
-	if l, e := Read(packed, 65536); !event.Same(l, full) || e != api.OK {
+	packed, _ = chunk.Print(full)
+	if l, e := chunk.Read(packed, 65536); !event.Same(l, full) || e != api.OK {
 		t.Error(len(l), e)
 	}
-	if l, e := Read(packed, 65535); len(l) != 0 || e != api.ErrForm {
+	if l, e := chunk.Read(packed, 65535); len(l) != 0 || e != api.ErrForm {
 		t.Error(len(l), e)
 	}
-	empty, _ := Print(nil)
-	if l, e := Read(empty, 0); len(l) != 0 || e != api.OK {
+	empty, _ := chunk.Print(nil)
+	if l, e := chunk.Read(empty, 0); len(l) != 0 || e != api.OK {
 		t.Error(l, e)
 	}
 }
@@ -124,10 +125,10 @@ func TestReadErrors(t *testing.T) {
 		"\x01\x00\x01" + "\x02\x0e\x00\x0e\x00" + "\x00\x00\x00",                   // runs of one value
 		"\x01\x00\x00" + "\x01\x01\x00" + "\x01\x00\x00" + "\x02\x00\x00" + "\x00", // two tickets
 	} {
-		if l, e := Read(huff.Pack(s), 100); len(l) != 0 || e != api.ErrForm {
+		if l, e := chunk.Read(huff.Pack(s), 100); len(l) != 0 || e != api.ErrForm {
 			t.Errorf("%x: %v %d", s, l, e)
 		}
-		if l, e := Read(s, 100); len(l) != 0 || e != api.ErrForm {
+		if l, e := chunk.Read(s, 100); len(l) != 0 || e != api.ErrForm {
 			t.Errorf("%x: %v %d", s, l, e)
 		}
 	}
@@ -160,18 +161,18 @@ func TestEventsComeBack(t *testing.T) {
 	random := rand.New(rand.NewSource(21))
 	for range 500 {
 		l := someEvents(random)
-		s, e := Print(l)
+		s, e := chunk.Print(l)
 		if e != api.OK {
 			t.Fatal(l, e)
 		}
-		if got, e := Read(s, len(l)); !event.Same(got, l) || e != api.OK {
+		if got, e := chunk.Read(s, len(l)); !event.Same(got, l) || e != api.OK {
 			t.Fatal(l, got, e)
 		}
-		streams, _ := Streams(l)
+		streams, _ := chunk.Streams(l)
 		b := []byte(streams)
 		b[random.Intn(len(b))] ^= 1 << random.Intn(8)
-		if got, e := Read(huff.Pack(string(b)), 65536); e == api.OK {
-			if again, _ := Streams(got); again != string(b) {
+		if got, e := chunk.Read(huff.Pack(string(b)), 65536); e == api.OK {
+			if again, _ := chunk.Streams(got); again != string(b) {
 				t.Fatalf("%x", b)
 			}
 		}

@@ -1,4 +1,4 @@
-package code
+package code_test
 
 import (
 	"hash/crc32"
@@ -8,6 +8,7 @@ import (
 	"testing"
 
 	"rondeau/api"
+	"rondeau/code"
 )
 
 const top = 1<<64 - 1
@@ -17,27 +18,27 @@ var all = strings.Fields("set mov add sub mul div mod and or xor shl shr lt eq j
 // P9.1: plain and visible instructions, and their names.
 func TestNames(t *testing.T) {
 	for op := -5; op < 300; op++ {
-		if Plain(op) != (op >= 1 && op <= 17) || Seen(op) != (op >= 18 && op <= 25) {
-			t.Error(op, Plain(op), Seen(op))
+		if code.Plain(op) != (op >= 1 && op <= 17) || code.Seen(op) != (op >= 18 && op <= 25) {
+			t.Error(op, code.Plain(op), code.Seen(op))
 		}
 		want := ""
 		if op >= 1 && op <= 25 {
 			want = all[op-1]
 		}
-		if Name(op) != want {
-			t.Error(op, Name(op))
+		if code.Name(op) != want {
+			t.Error(op, code.Name(op))
 		}
-		if got, ok := Find(want); want != "" && (got != op || !ok) {
+		if got, ok := code.Find(want); want != "" && (got != op || !ok) {
 			t.Error(want, got, ok)
 		}
 	}
 	for _, op := range []int{-1 << 63, 1<<63 - 1} {
-		if Plain(op) || Seen(op) || Name(op) != "" {
+		if code.Plain(op) || code.Seen(op) || code.Name(op) != "" {
 			t.Error(op)
 		}
 	}
 	for _, name := range []string{"", "SET", "Set", "set ", " set", "sets", "se", "nop", "\x00"} {
-		if op, ok := Find(name); op != 0 || ok {
+		if op, ok := code.Find(name); op != 0 || ok {
 			t.Errorf("%q: %d", name, op)
 		}
 	}
@@ -57,8 +58,8 @@ var limits = map[int][5]uint64{
 func TestRight(t *testing.T) {
 	for op, most := range limits {
 		greatest := api.Instr{Op: op, A: int(most[0]), B: int(most[1]), C: int(most[2]), D: int(most[3]), K: most[4]}
-		if !Right(api.Instr{Op: op}) || !Right(greatest) {
-			t.Error(Name(op), greatest)
+		if !code.Right(api.Instr{Op: op}) || !code.Right(greatest) {
+			t.Error(code.Name(op), greatest)
 		}
 		for _, by := range []int{-1, 1} {
 			for field := range 4 {
@@ -67,17 +68,17 @@ func TestRight(t *testing.T) {
 				if *place = -1; by == 1 {
 					*place = int(most[field]) + 1
 				}
-				if Right(i) {
-					t.Error(Name(op), i)
+				if code.Right(i) {
+					t.Error(code.Name(op), i)
 				}
 			}
 		}
-		if most[4] != top && (Right(api.Instr{Op: op, K: most[4] + 1}) || Right(api.Instr{Op: op, K: top})) {
-			t.Error(Name(op), "K")
+		if most[4] != top && (code.Right(api.Instr{Op: op, K: most[4] + 1}) || code.Right(api.Instr{Op: op, K: top})) {
+			t.Error(code.Name(op), "K")
 		}
 	}
 	for _, op := range []int{-1, 0, 26, 255, 1<<63 - 1} {
-		if Right(api.Instr{Op: op}) {
+		if code.Right(api.Instr{Op: op}) {
 			t.Error(op)
 		}
 	}
@@ -86,7 +87,7 @@ func TestRight(t *testing.T) {
 // P9.1: which ones are jumps.
 func TestJumps(t *testing.T) {
 	for op := -2; op < 30; op++ {
-		if Jumps(api.Instr{Op: op}) != (op >= 15 && op <= 17) {
+		if code.Jumps(api.Instr{Op: op}) != (op >= 15 && op <= 17) {
 			t.Error(op)
 		}
 	}
@@ -110,16 +111,16 @@ const sampleText = "\x02\x01\x04\x01\xff\x00\xff\x03" +
 // P9.2: the bytes of programs.
 func TestPrint(t *testing.T) {
 	halt := api.Program{Threads: [][]api.Instr{{{Op: api.OHalt}}}}
-	if s, e := Print(halt); s != "\x00\x01\x01\x19\x00\x00\x00\x00\x00" || e != api.OK {
+	if s, e := code.Print(halt); s != "\x00\x01\x01\x19\x00\x00\x00\x00\x00" || e != api.OK {
 		t.Errorf("%x %d", s, e)
 	}
-	if s, e := Print(api.Program{}); s != "\x00\x00" || e != api.OK {
+	if s, e := code.Print(api.Program{}); s != "\x00\x00" || e != api.OK {
 		t.Errorf("%x %d", s, e)
 	}
-	if s, e := Print(sample()); s != sampleText || e != api.OK {
+	if s, e := code.Print(sample()); s != sampleText || e != api.OK {
 		t.Errorf("%x %d", s, e)
 	}
-	if p, e := Read(sampleText); e != api.OK || len(p.Threads) != 3 || len(p.Threads[1]) != 0 || p.Threads[2][0].K != 256 || !reflect.DeepEqual(p.Rings, sample().Rings) {
+	if p, e := code.Read(sampleText); e != api.OK || len(p.Threads) != 3 || len(p.Threads[1]) != 0 || p.Threads[2][0].K != 256 || !reflect.DeepEqual(p.Rings, sample().Rings) {
 		t.Error(p, e)
 	}
 }
@@ -152,23 +153,23 @@ func TestEncodable(t *testing.T) {
 		{api.Program{Threads: [][]api.Instr{{{Op: 26}}}}, api.ErrArg},
 		{api.Program{Threads: [][]api.Instr{{}, {{Op: 25}, {Op: 25, A: 1}}}}, api.ErrArg},
 	} {
-		text, e := Print(s.program)
+		text, e := code.Print(s.program)
 		if e != s.want || e != api.OK && text != "" {
 			t.Error(len(s.program.Rings), len(s.program.Threads), text, e)
 		}
-		if got, e := Read(text); s.want == api.OK && (e != api.OK || !same(got, s.program)) {
+		if got, e := code.Read(text); s.want == api.OK && (e != api.OK || !same(got, s.program)) {
 			t.Error(got, e)
 		}
-		if s.want != api.OK && Digest(s.program) != 0 {
-			t.Error(Digest(s.program))
+		if s.want != api.OK && code.Digest(s.program) != 0 {
+			t.Error(code.Digest(s.program))
 		}
 	}
 }
 
 // same compares programs, nil and empty slices being equal.
 func same(a, b api.Program) bool {
-	x, _ := Print(a)
-	y, _ := Print(b)
+	x, _ := code.Print(a)
+	y, _ := code.Print(b)
 	return x == y && len(a.Rings) == len(b.Rings) && len(a.Threads) == len(b.Threads)
 }
 
@@ -182,12 +183,12 @@ func TestReadErrors(t *testing.T) {
 		"\x00\x01\x81\x02" + strings.Repeat("\x19\x00\x00\x00\x00\x00", 257),
 		"\x00\x01\xff\xff\xff\xff\xff\xff\xff\xff\xff\x01",
 	} {
-		if p, e := Read(s); e != api.ErrForm || len(p.Rings)+len(p.Threads) != 0 {
+		if p, e := code.Read(s); e != api.ErrForm || len(p.Rings)+len(p.Threads) != 0 {
 			t.Errorf("%x: %v %d", s, p, e)
 		}
 	}
 	for i := range len(sampleText) {
-		if _, e := Read(sampleText[:i]); e != api.ErrForm {
+		if _, e := code.Read(sampleText[:i]); e != api.ErrForm {
 			t.Error(i, e)
 		}
 	}
@@ -219,11 +220,11 @@ func TestProgramsComeBack(t *testing.T) {
 	random := rand.New(rand.NewSource(9))
 	for range 1000 {
 		p := someProgram(random)
-		s, e := Print(p)
+		s, e := code.Print(p)
 		if e != api.OK {
 			t.Fatal(p, e)
 		}
-		got, e := Read(s)
+		got, e := code.Read(s)
 		if e != api.OK || len(got.Threads) != len(p.Threads) || len(got.Rings) != len(p.Rings) {
 			t.Fatal(p, got, e)
 		}
@@ -244,8 +245,8 @@ func TestProgramsComeBack(t *testing.T) {
 		}
 		b := []byte(s)
 		b[random.Intn(len(b))] ^= byte(1 << random.Intn(8))
-		if q, e := Read(string(b)); e == api.OK {
-			if again, _ := Print(q); again != string(b) {
+		if q, e := code.Read(string(b)); e == api.OK {
+			if again, _ := code.Print(q); again != string(b) {
 				t.Fatalf("%x", b)
 			}
 		}
@@ -254,13 +255,13 @@ func TestProgramsComeBack(t *testing.T) {
 
 // P9.4: the digest is the checksum of the encoding.
 func TestDigest(t *testing.T) {
-	if got, want := Digest(sample()), crc32.ChecksumIEEE([]byte(sampleText)); got != want {
+	if got, want := code.Digest(sample()), crc32.ChecksumIEEE([]byte(sampleText)); got != want {
 		t.Error(got, want)
 	}
-	if got := Digest(api.Program{Rings: make([]api.Ring, 9)}); got != 0 {
+	if got := code.Digest(api.Program{Rings: make([]api.Ring, 9)}); got != 0 {
 		t.Error(got)
 	}
-	if got := Digest(api.Program{}); got != crc32.ChecksumIEEE([]byte{0, 0}) {
+	if got := code.Digest(api.Program{}); got != crc32.ChecksumIEEE([]byte{0, 0}) {
 		t.Error(got)
 	}
 }

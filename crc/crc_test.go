@@ -1,9 +1,11 @@
-package crc
+package crc_test
 
 import (
 	"hash/crc32"
 	"math/rand"
 	"testing"
+
+	"rondeau/crc"
 )
 
 func bytes(random *rand.Rand, n int) []byte {
@@ -14,7 +16,7 @@ func bytes(random *rand.Rand, n int) []byte {
 
 // P5.1: the table is that of the IEEE polynomial.
 func TestTable(t *testing.T) {
-	table := Table()
+	table := crc.Table()
 	if table != [256]uint32(*crc32.IEEETable) {
 		t.Error("another table")
 	}
@@ -25,17 +27,17 @@ func TestTable(t *testing.T) {
 
 // P5.1: the checksums of strings that are known.
 func TestSum(t *testing.T) {
-	table := Table()
-	if got := Sum(table, "123456789"); got != 0xcbf43926 {
+	table := crc.Table()
+	if got := crc.Sum(table, "123456789"); got != 0xcbf43926 {
 		t.Errorf("%x", got)
 	}
-	if got := Sum(table, ""); got != 0 {
+	if got := crc.Sum(table, ""); got != 0 {
 		t.Errorf("%x", got)
 	}
 	random := rand.New(rand.NewSource(5))
 	for range 100 {
 		b := bytes(random, random.Intn(60))
-		if got, want := Sum(table, string(b)), crc32.ChecksumIEEE(b); got != want {
+		if got, want := crc.Sum(table, string(b)), crc32.ChecksumIEEE(b); got != want {
 			t.Errorf("%x: %x, wanted %x", b, got, want)
 		}
 	}
@@ -55,21 +57,21 @@ func TestMore(t *testing.T) {
 		for _, c := range []byte(b) {
 			want = want>>8 ^ table[c^byte(want&255)]
 		}
-		if got := Sum(table, b); got != ^want {
+		if got := crc.Sum(table, b); got != ^want {
 			t.Fatalf("%x, wanted %x", got, ^want)
 		}
-		if got := More(table, Sum(table, b[:cut]), b[cut:]); got != ^want {
+		if got := crc.More(table, crc.Sum(table, b[:cut]), b[cut:]); got != ^want {
 			t.Fatalf("%x, wanted %x", got, ^want)
 		}
 	}
-	if got := Sum([256]uint32{}, "a"); got != 0xff000000 {
+	if got := crc.Sum([256]uint32{}, "a"); got != 0xff000000 {
 		t.Errorf("%x", got)
 	}
 }
 
 // P5.2: a change within 32 consecutive bits is found.
 func TestFindsBursts(t *testing.T) {
-	table := Table()
+	table := crc.Table()
 	random := rand.New(rand.NewSource(7))
 	for range 2000 {
 		b := bytes(random, 5+random.Intn(20))
@@ -84,7 +86,7 @@ func TestFindsBursts(t *testing.T) {
 				c[(first+i)/8] ^= 1 << ((first + i) % 8)
 			}
 		}
-		if Sum(table, string(b)) == Sum(table, string(c)) {
+		if crc.Sum(table, string(b)) == crc.Sum(table, string(c)) {
 			t.Fatalf("%x and %x", b, c)
 		}
 	}
@@ -92,7 +94,7 @@ func TestFindsBursts(t *testing.T) {
 
 // P5.2: the checksums of three strings and of their exclusive-or cancel out.
 func TestExclusiveOr(t *testing.T) {
-	table := Table()
+	table := crc.Table()
 	random := rand.New(rand.NewSource(8))
 	for range 200 {
 		n := random.Intn(20)
@@ -101,7 +103,7 @@ func TestExclusiveOr(t *testing.T) {
 		for i := range x {
 			x[i] = a[i] ^ b[i] ^ c[i]
 		}
-		if Sum(table, string(a))^Sum(table, string(b))^Sum(table, string(c))^Sum(table, string(x)) != 0 {
+		if crc.Sum(table, string(a))^crc.Sum(table, string(b))^crc.Sum(table, string(c))^crc.Sum(table, string(x)) != 0 {
 			t.Fatalf("%x %x %x", a, b, c)
 		}
 	}

@@ -1,4 +1,4 @@
-package delta
+package delta_test
 
 import (
 	"math"
@@ -7,6 +7,7 @@ import (
 	"testing"
 
 	"rondeau/api"
+	"rondeau/delta"
 	"rondeau/octet"
 	"rondeau/varint"
 )
@@ -21,10 +22,10 @@ func TestZigzag(t *testing.T) {
 		{math.MaxInt64, 1<<64 - 2}, {math.MinInt64, 1<<64 - 1},
 		{math.MinInt64 + 1, 1<<64 - 3}, {1 << 40, 1 << 41}, {-1 << 40, 1<<41 - 1},
 	} {
-		if got := Zig(s.number); got != s.code {
+		if got := delta.Zig(s.number); got != s.code {
 			t.Error("Zig", s.number, got, s.code)
 		}
-		if got := Zag(s.code); got != s.number {
+		if got := delta.Zag(s.code); got != s.number {
 			t.Error("Zag", s.code, got, s.number)
 		}
 	}
@@ -41,10 +42,10 @@ func TestDeltas(t *testing.T) {
 		{[]uint64{1<<63 - 1}, []uint64{1<<64 - 2}},
 	} {
 		given := slices.Clone(s.list)
-		if got := Deltas(s.list); !slices.Equal(got, s.deltas) {
+		if got := delta.Deltas(s.list); !slices.Equal(got, s.deltas) {
 			t.Error(s.list, got)
 		}
-		if got := Sums(s.deltas); !slices.Equal(got, s.list) {
+		if got := delta.Sums(s.deltas); !slices.Equal(got, s.list) {
 			t.Error(s.deltas, got)
 		}
 		if !slices.Equal(given, s.list) {
@@ -55,10 +56,10 @@ func TestDeltas(t *testing.T) {
 
 // P3.2: the encoding is layer 2's list of the deltas.
 func TestEncoding(t *testing.T) {
-	if got := Print([]uint64{5, 7, 6}); got != "\x03\x0a\x04\x01" {
+	if got := delta.Print([]uint64{5, 7, 6}); got != "\x03\x0a\x04\x01" {
 		t.Errorf("%x", got)
 	}
-	if got := Print(nil); got != "\x00" {
+	if got := delta.Print(nil); got != "\x00" {
 		t.Errorf("%x", got)
 	}
 	random := rand.New(rand.NewSource(3))
@@ -67,8 +68,8 @@ func TestEncoding(t *testing.T) {
 		for i := range l {
 			l[i] = random.Uint64() >> random.Intn(64)
 		}
-		r := octet.New(Print(l) + "!")
-		if got, e := Read(r, len(l)); !slices.Equal(got, l) || e != api.OK || r.Left() != 1 {
+		r := octet.New(delta.Print(l) + "!")
+		if got, e := delta.Read(r, len(l)); !slices.Equal(got, l) || e != api.OK || r.Left() != 1 {
 			t.Fatal(l, got, e, r.Left())
 		}
 	}
@@ -81,11 +82,11 @@ func TestErrors(t *testing.T) {
 		most int
 	}{{"", -1}, {"", 1}, {"\x02\x01", 2}, {"\x02\x01\x01", 1}, {"\x80\x00", 1}, {"\x02\x01\x80\x00", 2}} {
 		_, want := varint.ReadList(octet.New(s.text), s.most)
-		if l, e := Read(octet.New(s.text), s.most); len(l) != 0 || e != want || e == api.OK {
+		if l, e := delta.Read(octet.New(s.text), s.most); len(l) != 0 || e != want || e == api.OK {
 			t.Error(s, l, e, want)
 		}
 	}
-	if _, e := Read(nil, 1); e != api.ErrNil {
+	if _, e := delta.Read(nil, 1); e != api.ErrNil {
 		t.Error(e)
 	}
 }

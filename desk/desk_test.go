@@ -1,4 +1,4 @@
-package desk
+package desk_test
 
 import (
 	"encoding/hex"
@@ -8,6 +8,7 @@ import (
 
 	"rondeau/api"
 	"rondeau/code"
+	"rondeau/desk"
 	"rondeau/event"
 	"rondeau/listing"
 	"rondeau/trace"
@@ -35,7 +36,7 @@ func programLine(t *testing.T, text string) string {
 }
 
 // talk holds the output of each line against what is wanted.
-func talk(t *testing.T, d *Desk, lines ...string) {
+func talk(t *testing.T, d *desk.Desk, lines ...string) {
 	t.Helper()
 	for i := 0; i < len(lines); i += 2 {
 		if got := d.Do(lines[i]); got != lines[i+1] {
@@ -46,7 +47,7 @@ func talk(t *testing.T, d *Desk, lines ...string) {
 
 // P28.2: the commands, one after another.
 func TestCommands(t *testing.T) {
-	d := New()
+	d := desk.New()
 	talk(t, d,
 		programLine(t, pair), "ok\n",
 		"listing", pair,
@@ -81,7 +82,7 @@ func TestCommands(t *testing.T) {
 
 // P28.2: the tape, and what PICKS says of clocks, draws and timed waits.
 func TestScripts(t *testing.T) {
-	talk(t, New(),
+	talk(t, desk.New(),
 		"tape 7 0 123456789", "ok\n",
 		programLine(t, "queue 1\nthread\nread r1 r2\nsee r1\nclock r1\ndraw r1\nrecv r1 r2 0 timed 0\n"), "ok\n",
 		"record 9 0", "ok 1\n",
@@ -103,7 +104,10 @@ func TestBytes(t *testing.T) {
 	made, _ := trace.Make(p, 2, l)
 	text, _ := trace.Print(made)
 	word := hex.EncodeToString([]byte(text))
-	d := New()
+	wrong := []byte(text)
+	wrong[3] ^= 1
+	changed := hex.EncodeToString(wrong)
+	d := desk.New()
 	talk(t, d,
 		programLine(t, pair), "ok\n",
 		"trace "+word, "ok 3\n",
@@ -111,7 +115,7 @@ func TestBytes(t *testing.T) {
 		"events", "0 claim 0 0\n0 publish 0 0\n1 take 0 0\n",
 		"trace "+word[:len(word)-2], "error 2\n",
 		"trace "+word[2:], "error 3\n",
-		"trace "+strings.Replace(word, word[6:8], "77", 1), "error 12\n",
+		"trace "+changed, "error 12\n",
 		"bytes", word+"\n",
 		programLine(t, "thread\nhalt\n"), "ok\n",
 		"bytes", "error 14\n",
@@ -125,7 +129,7 @@ func TestBytes(t *testing.T) {
 
 // P28.2: the example lines of the document.
 func TestExamples(t *testing.T) {
-	talk(t, New(),
+	talk(t, desk.New(),
 		"listing", "error 14\n",
 		"program 000101190000000000", "ok\n",
 		"listing", "thread\nhalt\n",
@@ -146,8 +150,8 @@ func TestForms(t *testing.T) {
 		"replay", "replay a", "replay 0 0", "replay ", "replay 0\n", "slice", "slice a", "slice 0 ", "slice 0 a", "slice ",
 		"why", "why ", "why 0", "why 0 hop", "why 0 halt ", "why  0 halt", "why 0 halt 0", "why 8 halt", "why 0 claim 0", "why 0 halt\n", "why 0 halt\n0 halt", "why 0 see 01",
 	}
-	d := New()
-	full := New()
+	d := desk.New()
+	full := desk.New()
 	talk(t, full, programLine(t, pair), "ok\n", "record 2 00111", "ok 5\n")
 	for _, line := range lines {
 		talk(t, d, line, "error 3\n")
@@ -165,7 +169,7 @@ func TestForms(t *testing.T) {
 
 // P28.2: programs that are none, or not valid, change nothing.
 func TestPrograms(t *testing.T) {
-	d := New()
+	d := desk.New()
 	talk(t, d, programLine(t, pair), "ok\n", "tape 4", "ok\n", "record 2 00111", "ok 5\n",
 		"program 00", "error 3\n",
 		"program 00010119000000000000", "error 3\n",
@@ -180,14 +184,14 @@ func TestPrograms(t *testing.T) {
 
 // P28.1, P28.2: a nil desk, empty lines and remarks.
 func TestNilAndEmpty(t *testing.T) {
-	var d *Desk
+	var d *desk.Desk
 	talk(t, d, "", "error 15\n", "#", "error 15\n", "listing", "error 15\n", "hop", "error 15\n")
-	talk(t, New(), "", "", "#", "", "# hop", "", "#listing\nlisting", "", "#\xff", "")
+	talk(t, desk.New(), "", "", "#", "", "# hop", "", "#listing\nlisting", "", "#\xff", "")
 }
 
 // P28.2: why for as many events as there can be.
 func TestWhyTooLong(t *testing.T) {
-	d := New()
+	d := desk.New()
 	talk(t, d, programLine(t, "thread\ndraw r1\njmp 0\n"), "ok\n", "record 1000 "+strings.Repeat("0", 65536), "ok 65536\n", "why 0 draw 1", "error 4\n")
 	talk(t, d, "record 1000 "+strings.Repeat("0", 65537), "error 4\n", "replay "+strings.Repeat("0", 65537), "error 4\n", "seek 65536", "536 0 1\n")
 	talk(t, d, "tape"+strings.Repeat(" 1", 65537), "ok\n", "record 2 0", "error 4\n")
@@ -201,17 +205,17 @@ func TestRun(t *testing.T) {
 		{line + "\n# so\nrecord 2 00111\nseen 1\nlisting", "ok\nok 5\n9\n" + pair},
 		{"listing\r\n", "error 3\n"},
 	} {
-		if got, e := Run(s.script); got != s.want || e != api.OK {
+		if got, e := desk.Run(s.script); got != s.want || e != api.OK {
 			t.Errorf("%q: %q %d", s.script, got, e)
 		}
 	}
-	if got, e := Run("hop\n#" + strings.Repeat("x", 65531)); got != "error 3\n" || e != api.OK {
+	if got, e := desk.Run("hop\n#" + strings.Repeat("x", 65531)); got != "error 3\n" || e != api.OK {
 		t.Error(got, e)
 	}
-	if got, e := Run("hop\n#" + strings.Repeat("x", 65532)); got != "" || e != api.ErrLong {
+	if got, e := desk.Run("hop\n#" + strings.Repeat("x", 65532)); got != "" || e != api.ErrLong {
 		t.Error(got, e)
 	}
-	if got, e := Run(strings.Repeat("\n", 65536)); got != "" || e != api.OK {
+	if got, e := desk.Run(strings.Repeat("\n", 65536)); got != "" || e != api.OK {
 		t.Error(got, e)
 	}
 }
@@ -223,7 +227,7 @@ func TestBytesComeBack(t *testing.T) {
 		{"cast 2 2\nthread\nset r1 3\nsend r1 r2 0 wait\nsend r2 r3 0 wait\nclose 0\nthread\nrecv r1 r2 0 wait 0\nsee r1\njz r2 0\nthread\nrecv r1 r2 0 wait 1\nsee r1\njz r2 0\n", "0012012012012012012012012012"},
 	} {
 		for _, every := range []string{"1", "3", "50"} {
-			a, b := New(), New()
+			a, b := desk.New(), desk.New()
 			a.Do(programLine(t, s.text))
 			b.Do(programLine(t, s.text))
 			a.Do("record " + every + " " + s.digits)

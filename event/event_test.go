@@ -1,4 +1,4 @@
-package event
+package event_test
 
 import (
 	"math/rand"
@@ -8,6 +8,7 @@ import (
 	"testing"
 
 	"rondeau/api"
+	"rondeau/event"
 )
 
 const top = 1<<64 - 1
@@ -26,21 +27,21 @@ func TestNames(t *testing.T) {
 		want := ""
 		if kind >= 1 && kind <= 15 {
 			want = kinds[kind-1]
-			if got, ok := Find(want); got != kind || !ok {
+			if got, ok := event.Find(want); got != kind || !ok {
 				t.Error(want, got, ok)
 			}
 		}
 		ring, _, _ := uses(kind)
-		if Name(kind) != want || Rings(kind) != ring {
-			t.Error(kind, Name(kind), Rings(kind))
+		if event.Name(kind) != want || event.Rings(kind) != ring {
+			t.Error(kind, event.Name(kind), event.Rings(kind))
 		}
 	}
 	for _, name := range []string{"", "Claim", "claim ", "clai", "wait", "\x00"} {
-		if got, ok := Find(name); got != 0 || ok {
+		if got, ok := event.Find(name); got != 0 || ok {
 			t.Errorf("%q %d", name, got)
 		}
 	}
-	if Name(-1<<63) != "" || Name(1<<63-1) != "" || Rings(-1) {
+	if event.Name(-1<<63) != "" || event.Name(1<<63-1) != "" || event.Rings(-1) {
 		t.Error("kinds far off")
 	}
 }
@@ -67,13 +68,13 @@ func TestRight(t *testing.T) {
 			{api.Event{Kind: kind, Value: 1}, value},
 			{api.Event{Kind: kind, Value: top}, value},
 		} {
-			if Right(s.event) != s.want {
+			if event.Right(s.event) != s.want {
 				t.Error(s)
 			}
 		}
 	}
 	for _, kind := range []int{-1, 0, 16, 255, -1 << 63} {
-		if Right(api.Event{Kind: kind}) {
+		if event.Right(api.Event{Kind: kind}) {
 			t.Error(kind)
 		}
 	}
@@ -82,24 +83,24 @@ func TestRight(t *testing.T) {
 // P15.1: the first event that is not valid.
 func TestCheck(t *testing.T) {
 	halt := api.Event{Kind: api.EHalt}
-	if i, e := Check(nil); i != 0 || e != api.OK {
+	if i, e := event.Check(nil); i != 0 || e != api.OK {
 		t.Error(i, e)
 	}
-	if i, e := Check([]api.Event{halt, halt, {}, {Kind: 16}}); i != 2 || e != api.ErrForm {
+	if i, e := event.Check([]api.Event{halt, halt, {}, {Kind: 16}}); i != 2 || e != api.ErrForm {
 		t.Error(i, e)
 	}
 	full := slices.Repeat([]api.Event{halt}, 65536)
-	if i, e := Check(full); i != 0 || e != api.OK {
+	if i, e := event.Check(full); i != 0 || e != api.OK {
 		t.Error(i, e)
 	}
 	full[1] = api.Event{}
-	if i, e := Check(append(full, halt)); i != 0 || e != api.ErrLong {
+	if i, e := event.Check(append(full, halt)); i != 0 || e != api.ErrLong {
 		t.Error(i, e)
 	}
-	if s, e := Print(append(full, halt)); s != "" || e != api.ErrLong {
+	if s, e := event.Print(append(full, halt)); s != "" || e != api.ErrLong {
 		t.Error(e)
 	}
-	if i, e := Check(full); i != 1 || e != api.ErrForm {
+	if i, e := event.Check(full); i != 1 || e != api.ErrForm {
 		t.Error(i, e)
 	}
 }
@@ -107,17 +108,17 @@ func TestCheck(t *testing.T) {
 // P15.1: a thread's events, and equal lists.
 func TestOfAndSame(t *testing.T) {
 	l := []api.Event{{Thread: 1}, {Thread: -4}, {Thread: 1, Kind: 99}, {Thread: 2}}
-	if !slices.Equal(Of(l, 1), []int{0, 2}) || !slices.Equal(Of(l, -4), []int{1}) || len(Of(l, 9)) != 0 || len(Of(nil, 0)) != 0 {
-		t.Error(Of(l, 1), Of(l, -4), Of(l, 9))
+	if !slices.Equal(event.Of(l, 1), []int{0, 2}) || !slices.Equal(event.Of(l, -4), []int{1}) || len(event.Of(l, 9)) != 0 || len(event.Of(nil, 0)) != 0 {
+		t.Error(event.Of(l, 1), event.Of(l, -4), event.Of(l, 9))
 	}
 	a := api.Event{Thread: 1, Kind: 2, Ring: 3, Ticket: 4, Value: 5}
-	if !Same(nil, []api.Event{}) || !Same([]api.Event{a, a}, []api.Event{a, a}) || Same([]api.Event{a}, []api.Event{a, a}) || Same([]api.Event{a, a}, []api.Event{a}) {
+	if !event.Same(nil, []api.Event{}) || !event.Same([]api.Event{a, a}, []api.Event{a, a}) || event.Same([]api.Event{a}, []api.Event{a, a}) || event.Same([]api.Event{a, a}, []api.Event{a}) {
 		t.Error("lengths")
 	}
 	b, c, d, e, f := a, a, a, a, a
 	b.Thread, c.Kind, d.Ring, e.Ticket, f.Value = 0, 0, 0, 0, 0
 	for _, other := range []api.Event{b, c, d, e, f} {
-		if Same([]api.Event{a, a}, []api.Event{a, other}) {
+		if event.Same([]api.Event{a, a}, []api.Event{a, other}) {
 			t.Error(other)
 		}
 	}
@@ -149,31 +150,31 @@ func TestText(t *testing.T) {
 	var all []api.Event
 	var text string
 	for _, s := range lines {
-		if got, e := Line(s.event); got != s.line || e != api.OK {
+		if got, e := event.Line(s.event); got != s.line || e != api.OK {
 			t.Errorf("%v: %q %d", s.event, got, e)
 		}
-		if l, n, e := Read(s.line + "\n"); len(l) != 1 || l[0] != s.event || n != 0 || e != api.OK {
+		if l, n, e := event.Read(s.line + "\n"); len(l) != 1 || l[0] != s.event || n != 0 || e != api.OK {
 			t.Error(s.line, l, n, e)
 		}
 		all = append(all, s.event)
 		text += s.line + "\n"
 	}
-	if got, e := Print(all); got != text || e != api.OK {
+	if got, e := event.Print(all); got != text || e != api.OK {
 		t.Errorf("%q %d", got, e)
 	}
-	if l, n, e := Read(text); !Same(l, all) || n != 0 || e != api.OK {
+	if l, n, e := event.Read(text); !event.Same(l, all) || n != 0 || e != api.OK {
 		t.Error(l, n, e)
 	}
-	if got, e := Print(nil); got != "" || e != api.OK {
+	if got, e := event.Print(nil); got != "" || e != api.OK {
 		t.Error(got, e)
 	}
-	if l, n, e := Read(""); len(l) != 0 || n != 0 || e != api.OK {
+	if l, n, e := event.Read(""); len(l) != 0 || n != 0 || e != api.OK {
 		t.Error(l, n, e)
 	}
-	if got, e := Line(api.Event{Kind: api.EHalt, Ring: 1}); got != "" || e != api.ErrForm {
+	if got, e := event.Line(api.Event{Kind: api.EHalt, Ring: 1}); got != "" || e != api.ErrForm {
 		t.Error(got, e)
 	}
-	if got, e := Print([]api.Event{{Kind: api.EHalt}, {}}); got != "" || e != api.ErrForm {
+	if got, e := event.Print([]api.Event{{Kind: api.EHalt}, {}}); got != "" || e != api.ErrForm {
 		t.Error(got, e)
 	}
 }
@@ -195,11 +196,11 @@ func TestReadErrors(t *testing.T) {
 		{"0 end 0\n", 1}, {"0 halt\n1 see 2\n2 see\n", 3}, {"\x00\n", 1}, {"0 halt\nx", 2},
 		{strings.Repeat("0 halt\n", 65536) + "0 halt\n", 65537}, {strings.Repeat("0 halt\n", 65536) + "0", 65537},
 	} {
-		if l, n, e := Read(s.text); len(l) != 0 || n != s.line || e != api.ErrForm {
+		if l, n, e := event.Read(s.text); len(l) != 0 || n != s.line || e != api.ErrForm {
 			t.Errorf("%.40q: line %d, %d", s.text, n, e)
 		}
 	}
-	if l, n, e := Read(strings.Repeat("0 halt\n", 65536)); len(l) != 65536 || n != 0 || e != api.OK {
+	if l, n, e := event.Read(strings.Repeat("0 halt\n", 65536)); len(l) != 65536 || n != 0 || e != api.OK {
 		t.Error(len(l), n, e)
 	}
 }
@@ -227,11 +228,11 @@ func TestEventsComeBack(t *testing.T) {
 		for range random.Intn(5) {
 			l = append(l, someEvent(random))
 		}
-		text, e := Print(l)
+		text, e := event.Print(l)
 		if e != api.OK {
 			t.Fatal(l, e)
 		}
-		if got, n, e := Read(text); !Same(got, l) || n != 0 || e != api.OK {
+		if got, n, e := event.Read(text); !event.Same(got, l) || n != 0 || e != api.OK {
 			t.Fatal(text, got, n, e)
 		}
 		if text == "" {
@@ -239,8 +240,8 @@ func TestEventsComeBack(t *testing.T) {
 		}
 		b := []byte(text)
 		b[random.Intn(len(b))] = " \n0189hx"[random.Intn(8)]
-		if got, _, e := Read(string(b)); e == api.OK {
-			if again, _ := Print(got); again != string(b) {
+		if got, _, e := event.Read(string(b)); e == api.OK {
+			if again, _ := event.Print(got); again != string(b) {
 				t.Fatalf("%q", b)
 			}
 		}
@@ -251,7 +252,7 @@ func TestEventsComeBack(t *testing.T) {
 func TestGreatNumbers(t *testing.T) {
 	for _, n := range []uint64{top, top - 1, top - 5, top / 10, top/10 + 1, 1 << 63} {
 		text := "0 see " + strconv.FormatUint(n, 10) + "\n"
-		if l, _, e := Read(text); e != api.OK || l[0].Value != n {
+		if l, _, e := event.Read(text); e != api.OK || l[0].Value != n {
 			t.Error(text, l, e)
 		}
 	}

@@ -1,4 +1,4 @@
-package gate
+package gate_test
 
 import (
 	"reflect"
@@ -8,6 +8,7 @@ import (
 	"rondeau/api"
 	"rondeau/event"
 	"rondeau/fabric"
+	"rondeau/gate"
 	"rondeau/listing"
 )
 
@@ -73,7 +74,7 @@ func TestRun(t *testing.T) {
 		{"0110111", []int{0, 2, 1, 3, 4}, 1, 1},
 		{"29", nil, 0, 2},
 	} {
-		r, e := Run(p, l, script(s.digits))
+		r, e := gate.Run(p, l, script(s.digits))
 		var done []api.Event
 		for _, i := range s.order {
 			done = append(done, l[i])
@@ -82,10 +83,10 @@ func TestRun(t *testing.T) {
 			t.Error(s, r, e)
 		}
 	}
-	if r, e := Run(p, l, []api.Entry{{Pick: -1}, {Pick: 1 << 40}}); r.Idle != 2 || e != api.OK {
+	if r, e := gate.Run(p, l, []api.Entry{{Pick: -1}, {Pick: 1 << 40}}); r.Idle != 2 || e != api.OK {
 		t.Error(r, e)
 	}
-	if r, e := Run(p, nil, script("01")); r.Idle != 2 || e != api.OK || !reflect.DeepEqual(r.State, after(t, p, nil)) {
+	if r, e := gate.Run(p, nil, script("01")); r.Idle != 2 || e != api.OK || !reflect.DeepEqual(r.State, after(t, p, nil)) {
 		t.Error(r, e)
 	}
 }
@@ -94,14 +95,14 @@ func TestRun(t *testing.T) {
 func TestBroken(t *testing.T) {
 	p := program(t, pair)
 	l := events(t, "0 claim 0 0\n1 take 0 0\n1 see 9\n0 publish 0 0\n")
-	r, e := Run(p, l, script("1201109"))
+	r, e := gate.Run(p, l, script("1201109"))
 	if e != api.ErrOrder || !slices.Equal(r.Order, []int{0, 1}) || r.Stalls != 1 || r.Idle != 1 || !reflect.DeepEqual(r.State, after(t, p, l[:2])) {
 		t.Error(r, e)
 	}
-	if r, e := Run(p, events(t, "0 halt\n"), script("1")); e != api.OK || r.Idle != 1 {
+	if r, e := gate.Run(p, events(t, "0 halt\n"), script("1")); e != api.OK || r.Idle != 1 {
 		t.Error(r, e)
 	}
-	if n, e := Rounds(p, l, []int{0, 1}); n != 0 || e != api.ErrOrder {
+	if n, e := gate.Rounds(p, l, []int{0, 1}); n != 0 || e != api.ErrOrder {
 		t.Error(n, e)
 	}
 }
@@ -121,20 +122,20 @@ func TestErrors(t *testing.T) {
 		{p, []api.Event{halt, {Kind: api.EHalt, Thread: 2}}, api.ErrRange}, {p, []api.Event{{Kind: api.EHalt, Thread: 2}, {}}, api.ErrForm},
 		{p, []api.Event{{Kind: api.EHalt, Thread: 8}}, api.ErrForm}, {p, full, api.ErrRange},
 	} {
-		if r, e := Run(s.program, s.events, script("0")); e != s.want || !reflect.DeepEqual(r, Result{}) {
+		if r, e := gate.Run(s.program, s.events, script("0")); e != s.want || !reflect.DeepEqual(r, gate.Result{}) {
 			t.Error(s.want, r, e)
 		}
-		if n, e := Rounds(s.program, s.events, []int{0}); e != s.want || n != 0 {
+		if n, e := gate.Rounds(s.program, s.events, []int{0}); e != s.want || n != 0 {
 			t.Error(s.want, n, e)
 		}
 	}
-	if r, e := Run(p, []api.Event{{}}, make([]api.Entry, 65537)); e != api.ErrLong || !reflect.DeepEqual(r, Result{}) {
+	if r, e := gate.Run(p, []api.Event{{}}, make([]api.Entry, 65537)); e != api.ErrLong || !reflect.DeepEqual(r, gate.Result{}) {
 		t.Error(r, e)
 	}
-	if _, e := Run(p, nil, make([]api.Entry, 65536)); e != api.OK {
+	if _, e := gate.Run(p, nil, make([]api.Entry, 65536)); e != api.OK {
 		t.Error(e)
 	}
-	if n, e := Rounds(p, events(t, record), make([]int, 65537)); n != 0 || e != api.ErrNone {
+	if n, e := gate.Rounds(p, events(t, record), make([]int, 65537)); n != 0 || e != api.ErrNone {
 		t.Error(n, e) // picks are not limited, but 1 never comes
 	}
 }
@@ -164,7 +165,7 @@ func TestRounds(t *testing.T) {
 		{"0 halt\n", []int{1, 0}, 0, api.ErrOrder},
 		{"0 halt\n", []int{1}, 0, api.ErrNone},
 	} {
-		if n, e := Rounds(program(t, sends), events(t, s.events), s.picks); n != s.want || e != s.err {
+		if n, e := gate.Rounds(program(t, sends), events(t, s.events), s.picks); n != s.want || e != s.err {
 			t.Error(s, n, e)
 		}
 	}

@@ -1,4 +1,4 @@
-package huff
+package huff_test
 
 import (
 	"math/rand"
@@ -6,6 +6,7 @@ import (
 	"testing"
 
 	"rondeau/api"
+	"rondeau/huff"
 	"rondeau/runs"
 	"rondeau/varint"
 )
@@ -14,9 +15,9 @@ const top = 1<<64 - 1
 
 // P7.1: how often each byte is there.
 func TestCount(t *testing.T) {
-	c := Count("abca\x00\xff\xff")
+	c := huff.Count("abca\x00\xff\xff")
 	want := [256]uint64{0: 1, 'a': 2, 'b': 1, 'c': 1, 255: 2}
-	if c != want || Count("") != [256]uint64{} {
+	if c != want || huff.Count("") != [256]uint64{} {
 		t.Error(c)
 	}
 }
@@ -49,7 +50,7 @@ func TestLengths(t *testing.T) {
 		for b, n := range s.lengths {
 			l[b] = n
 		}
-		if got := Lengths(w); got != l {
+		if got := huff.Lengths(w); got != l {
 			t.Error(s.weights, got)
 		}
 	}
@@ -65,30 +66,30 @@ func TestLongLengths(t *testing.T) {
 			w[i] = 1 << (i - 1)
 		}
 	}
-	l := Lengths(w)
+	l := huff.Lengths(w)
 	// Up to 63 each byte is as heavy as all before it; from there on all are equal.
 	if l[0] != l[1] || l[1] != l[2]+1 || l[2] != l[3]+1 || l[0] < 60 {
 		t.Error(l)
 	}
-	if _, e := Codes(l); e != api.ErrArg {
+	if _, e := huff.Codes(l); e != api.ErrArg {
 		t.Error(e)
 	}
 }
 
 // P7.2: codes are handed out by length, then by byte.
 func TestCodes(t *testing.T) {
-	codes, e := Codes([256]uint8{'a': 1, 'b': 2, 'c': 2})
+	codes, e := huff.Codes([256]uint8{'a': 1, 'b': 2, 'c': 2})
 	if e != api.OK || codes != [256]uint64{'a': 0, 'b': 2, 'c': 3} {
 		t.Error(e, codes['a'], codes['b'], codes['c'])
 	}
-	codes, e = Codes([256]uint8{'a': 3, 'b': 1, 'c': 3, 'd': 2})
+	codes, e = huff.Codes([256]uint8{'a': 3, 'b': 1, 'c': 3, 'd': 2})
 	if e != api.OK || codes != [256]uint64{'a': 6, 'b': 0, 'c': 7, 'd': 2} {
 		t.Error(e, codes['a'], codes['b'], codes['c'], codes['d'])
 	}
-	if codes, e = Codes([256]uint8{}); e != api.OK || codes != [256]uint64{} {
+	if codes, e = huff.Codes([256]uint8{}); e != api.OK || codes != [256]uint64{} {
 		t.Error(e)
 	}
-	if codes, e = Codes([256]uint8{7: 1}); e != api.OK || codes != [256]uint64{} {
+	if codes, e = huff.Codes([256]uint8{7: 1}); e != api.OK || codes != [256]uint64{} {
 		t.Error(e)
 	}
 	var deep [256]uint8
@@ -96,7 +97,7 @@ func TestCodes(t *testing.T) {
 		deep[i] = uint8(i + 1)
 	}
 	deep[56] = 56
-	if codes, e = Codes(deep); e != api.OK || codes[56] != 1<<56-1 || codes[55] != 1<<56-2 || codes[1] != 2 {
+	if codes, e = huff.Codes(deep); e != api.OK || codes[56] != 1<<56-1 || codes[55] != 1<<56-2 || codes[1] != 2 {
 		t.Error(e, codes[56], codes[55], codes[1])
 	}
 }
@@ -115,7 +116,7 @@ func TestCodesErrors(t *testing.T) {
 		{[256]uint8{3: 1, 4: 1, 5: 1}, api.ErrForm},
 		{[256]uint8{3: 1, 4: 1, 5: 56}, api.ErrForm},
 	} {
-		if codes, e := Codes(s.lengths); e != s.want || codes != [256]uint64{} {
+		if codes, e := huff.Codes(s.lengths); e != s.want || codes != [256]uint64{} {
 			t.Error(s, e)
 		}
 	}
@@ -123,25 +124,25 @@ func TestCodesErrors(t *testing.T) {
 	for i := range all {
 		all[i] = 1
 	}
-	if _, e := Codes(all); e != api.ErrForm {
+	if _, e := huff.Codes(all); e != api.ErrForm {
 		t.Error(e)
 	}
 }
 
 // P7.3: compressed forms.
 func TestPack(t *testing.T) {
-	if got := Pack(""); got != "\x00\x01\x00\xff\x01" {
+	if got := huff.Pack(""); got != "\x00\x01\x00\xff\x01" {
 		t.Errorf("%x", got)
 	}
 	// a 1, b 2, c 2 bits: 0 10 0 11, in one byte.
 	lengths := make([]uint64, 256)
 	lengths['a'], lengths['b'], lengths['c'] = 1, 2, 2
-	if got, want := Pack("abac"), "\x04"+runs.Print(lengths)+"\x4c"; got != want {
+	if got, want := huff.Pack("abac"), "\x04"+runs.Print(lengths)+"\x4c"; got != want {
 		t.Errorf("%x, wanted %x", got, want)
 	}
 	lengths = make([]uint64, 256)
 	lengths['z'] = 1
-	if got, want := Pack("zzz"), "\x03"+runs.Print(lengths)+"\x00"; got != want {
+	if got, want := huff.Pack("zzz"), "\x03"+runs.Print(lengths)+"\x00"; got != want {
 		t.Errorf("%x, wanted %x", got, want)
 	}
 }
@@ -156,19 +157,19 @@ func TestStringsComeBack(t *testing.T) {
 			b[i] = byte(random.Intn(1+random.Intn(kinds)) * 7)
 		}
 		s := string(b)
-		if got, e := Unpack(Pack(s), len(s)); got != s || e != api.OK {
+		if got, e := huff.Unpack(huff.Pack(s), len(s)); got != s || e != api.OK {
 			t.Fatalf("%x: %x %d", s, got, e)
 		}
 	}
 	long := strings.Repeat("the same again, and the same once more; ", 5000)
-	if got, e := Unpack(Pack(long), api.MaxBytes); got != long || e != api.OK {
+	if got, e := huff.Unpack(huff.Pack(long), api.MaxBytes); got != long || e != api.OK {
 		t.Error(e)
 	}
 }
 
 // P7.3: what is not what Pack returns.
 func TestUnpackErrors(t *testing.T) {
-	packed := Pack("abac")
+	packed := huff.Pack("abac")
 	swapped := make([]uint64, 256)
 	swapped['a'], swapped['b'], swapped['c'] = 2, 1, 2
 	spare := make([]uint64, 256)
@@ -204,14 +205,14 @@ func TestUnpackErrors(t *testing.T) {
 		{"\x01" + runs.Print(make([]uint64, 256)) + "\x00", 4, api.ErrForm},
 		{"\x01\x01\x80\x02\xff\x01\x00", 4, api.ErrForm}, // all lengths 256
 	} {
-		if got, e := Unpack(s.text, s.most); got != "" || e != s.want {
+		if got, e := huff.Unpack(s.text, s.most); got != "" || e != s.want {
 			t.Errorf("%x, at most %d: %q %d, wanted %d", s.text, s.most, got, e, s.want)
 		}
 	}
-	if got, e := Unpack(packed, 4); got != "abac" || e != api.OK {
+	if got, e := huff.Unpack(packed, 4); got != "abac" || e != api.OK {
 		t.Error(got, e)
 	}
-	if got, e := Unpack(Pack(""), 0); got != "" || e != api.OK {
+	if got, e := huff.Unpack(huff.Pack(""), 0); got != "" || e != api.OK {
 		t.Error(got, e)
 	}
 }
@@ -220,10 +221,10 @@ func TestUnpackErrors(t *testing.T) {
 func TestChangedFormsAreRefused(t *testing.T) {
 	random := rand.New(rand.NewSource(8))
 	for range 2000 {
-		b := []byte(Pack("hello, halloo"))
+		b := []byte(huff.Pack("hello, halloo"))
 		b[random.Intn(len(b))] = byte(random.Intn(256))
-		s, e := Unpack(string(b), 64)
-		if e == api.OK && Pack(s) != string(b) {
+		s, e := huff.Unpack(string(b), 64)
+		if e == api.OK && huff.Pack(s) != string(b) {
 			t.Fatalf("%x", b)
 		}
 	}
@@ -247,8 +248,8 @@ func TestBestCodes(t *testing.T) {
 		if len(rest) < 2 {
 			continue
 		}
-		l := Lengths(w)
-		codes, e := Codes(l)
+		l := huff.Lengths(w)
+		codes, e := huff.Codes(l)
 		if e != api.OK {
 			t.Fatal(e)
 		}

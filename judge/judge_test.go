@@ -1,4 +1,4 @@
-package judge
+package judge_test
 
 import (
 	"slices"
@@ -6,6 +6,7 @@ import (
 
 	"rondeau/api"
 	"rondeau/event"
+	"rondeau/judge"
 	"rondeau/listing"
 )
 
@@ -48,7 +49,7 @@ func TestFirst(t *testing.T) {
 		{p, make([]api.Event, 65537), 0, api.ErrLong},
 		{p, make([]api.Event, 65536), 0, api.OK},
 	} {
-		if n, e := First(s.program, s.events); n != s.want || e != s.err {
+		if n, e := judge.First(s.program, s.events); n != s.want || e != s.err {
 			t.Error(s.want, s.err, n, e)
 		}
 	}
@@ -85,7 +86,7 @@ func TestCan(t *testing.T) {
 		{"queue 1\nqueue 1\nthread\nsend r1 r2 1 wait\nclose 1\n", "0 claim 1 0\n0 publish 1 0\n", 0, []int{api.EClose}},
 		{"cast 2 2\nthread\nsend r1 r2 0 wait\nthread\nrecv r1 r2 0 wait 1\nrecv r1 r2 0 wait 1\n", "0 claim 0 0\n0 publish 0 0\n1 take 0 0\n1 release 0 0\n", 1, nil},
 	} {
-		if got, e := Can(program(t, s.program), events(t, s.events), s.thread); !slices.Equal(got, s.want) || e != api.OK {
+		if got, e := judge.Can(program(t, s.program), events(t, s.events), s.thread); !slices.Equal(got, s.want) || e != api.OK {
 			t.Error(s, got, e)
 		}
 	}
@@ -104,10 +105,10 @@ func TestErrors(t *testing.T) {
 		{api.Program{}, long, 9, api.ErrArg}, {p, long, 9, api.ErrLong}, {p, events(t, "1 take 0 0\n"), 9, api.ErrOrder},
 		{p, nil, 2, api.ErrRange}, {p, nil, -1, api.ErrRange}, {p, []api.Event{{}}, 0, api.ErrOrder},
 	} {
-		if got, e := Can(s.program, s.events, s.thread); len(got) != 0 || e != s.want {
+		if got, e := judge.Can(s.program, s.events, s.thread); len(got) != 0 || e != s.want {
 			t.Error(s.want, got, e)
 		}
-		if got, e := Stuck(s.program, s.events); s.want != api.ErrRange && (got || e != s.want) {
+		if got, e := judge.Stuck(s.program, s.events); s.want != api.ErrRange && (got || e != s.want) {
 			t.Error(s.want, got, e)
 		}
 	}
@@ -131,7 +132,7 @@ func TestStuck(t *testing.T) {
 		{"queue 1\nthread\nrecv r1 r2 0 wait 0\nthread\nhalt\n", "1 halt\n", true},
 		{"queue 1\nthread\nrecv r1 r2 0 wait 0\nthread\nhalt\n", "", false},
 	} {
-		if got, e := Stuck(program(t, s.program), events(t, s.events)); got != s.want || e != api.OK {
+		if got, e := judge.Stuck(program(t, s.program), events(t, s.events)); got != s.want || e != api.OK {
 			t.Error(s, got, e)
 		}
 	}
@@ -156,15 +157,15 @@ func TestWhy(t *testing.T) {
 		{"thread\nsee r0\n", []api.Event{{Thread: 8, Kind: api.ESee}}, "0: ?, not nothing"},
 		{"thread\nsee r0\n", []api.Event{{Thread: -1, Kind: api.ESee}}, "0: ?, not nothing"},
 	} {
-		if got, e := Why(program(t, s.program), s.events); got != s.want || e != api.OK {
+		if got, e := judge.Why(program(t, s.program), s.events); got != s.want || e != api.OK {
 			t.Errorf("%v: %q %d", s, got, e)
 		}
 	}
 	long := make([]api.Event, 65537)
-	if got, e := Why(api.Program{}, long); got != "" || e != api.ErrArg {
+	if got, e := judge.Why(api.Program{}, long); got != "" || e != api.ErrArg {
 		t.Error(got, e)
 	}
-	if got, e := Why(program(t, pair), long); got != "" || e != api.ErrLong {
+	if got, e := judge.Why(program(t, pair), long); got != "" || e != api.ErrLong {
 		t.Error(got, e)
 	}
 }

@@ -1,4 +1,4 @@
-package listing
+package listing_test
 
 import (
 	"math/rand"
@@ -7,6 +7,7 @@ import (
 
 	"rondeau/api"
 	"rondeau/code"
+	"rondeau/listing"
 )
 
 const top = 1<<64 - 1
@@ -39,16 +40,16 @@ var lines = []struct {
 // P10.1, P10.2: the lines of instructions.
 func TestLines(t *testing.T) {
 	for _, s := range lines {
-		if got, e := Line(s.instr); got != s.line || e != api.OK {
+		if got, e := listing.Line(s.instr); got != s.line || e != api.OK {
 			t.Errorf("%v: %q %d, wanted %q", s.instr, got, e, s.line)
 		}
-		p, n, e := Read("thread\n" + s.line + "\n")
+		p, n, e := listing.Read("thread\n" + s.line + "\n")
 		if e != api.OK || n != 0 || len(p.Threads) != 1 || p.Threads[0][0] != s.instr {
 			t.Error(s.line, p, n, e)
 		}
 	}
 	for _, i := range []api.Instr{{}, {Op: 26}, {Op: -1}, {Op: api.OSee, A: 8}, {Op: api.OHalt, K: 1}, {Op: api.OSend, D: 3}, {Op: api.OSend, D: -1}, {Op: api.OJmp, K: 257}} {
-		if got, e := Line(i); got != "" || e != api.ErrArg {
+		if got, e := listing.Line(i); got != "" || e != api.ErrArg {
 			t.Error(i, got, e)
 		}
 	}
@@ -61,14 +62,14 @@ func TestPrint(t *testing.T) {
 		Threads: [][]api.Instr{{{Op: api.OSet, A: 1, K: 300}, {Op: api.OSend, A: 1, B: 2, D: 1}, {Op: api.OHalt}}},
 	}
 	const want = "queue 4\nthread\nset r1 300\nsend r1 r2 0 wait\nhalt\n"
-	if got, e := Print(p); got != want || e != api.OK {
+	if got, e := listing.Print(p); got != want || e != api.OK {
 		t.Errorf("%q %d", got, e)
 	}
-	if got, e := Print(api.Program{}); got != "" || e != api.OK {
+	if got, e := listing.Print(api.Program{}); got != "" || e != api.OK {
 		t.Errorf("%q %d", got, e)
 	}
 	p = api.Program{Rings: []api.Ring{{Kind: 2, Cap: 0, Readers: 255}, {Kind: 2, Cap: 255, Readers: 0}, {Kind: 1, Cap: 0, Readers: 1}}, Threads: make([][]api.Instr, 2)}
-	if got, e := Print(p); got != "cast 0 255\ncast 255 0\nqueue 0\nthread\nthread\n" || e != api.OK {
+	if got, e := listing.Print(p); got != "cast 0 255\ncast 255 0\nqueue 0\nthread\nthread\n" || e != api.OK {
 		t.Errorf("%q %d", got, e)
 	}
 }
@@ -87,7 +88,7 @@ func TestPrintErrors(t *testing.T) {
 		{Threads: make([][]api.Instr, 9)},
 		{Threads: [][]api.Instr{{{Op: api.OHalt}, {}}}},
 	} {
-		if got, e := Print(p); got != "" || e != api.ErrArg {
+		if got, e := listing.Print(p); got != "" || e != api.ErrArg {
 			t.Error(p, got, e)
 		}
 	}
@@ -118,12 +119,12 @@ func TestReadErrors(t *testing.T) {
 		{"thread\nclose r1\n", 2}, {"thread\nclose 8\n", 2}, {"thread\nhalt 0\n", 2}, {"thread\nnop\n", 2}, {"thread\n set r1 1\n", 2},
 		{"thread\nhalt\nhop\nhip\n", 3}, {"\x00\n", 1}, {"thread\nadd r1 r2\n", 2}, {"thread\nsend r1 r2 0 \n", 2},
 	} {
-		if p, n, e := Read(s.text); e != api.ErrForm || n != s.line || len(p.Rings)+len(p.Threads) != 0 {
+		if p, n, e := listing.Read(s.text); e != api.ErrForm || n != s.line || len(p.Rings)+len(p.Threads) != 0 {
 			t.Errorf("%q: %v, line %d, %d", s.text, p, n, e)
 		}
 	}
 	for _, s := range []string{"", "queue 255\n", full, strings.Repeat("queue 1\n", 8) + strings.Repeat("thread\n", 8)} {
-		if _, n, e := Read(s); e != api.OK || n != 0 {
+		if _, n, e := listing.Read(s); e != api.OK || n != 0 {
 			t.Errorf("%q: line %d, %d", s, n, e)
 		}
 	}
@@ -160,11 +161,11 @@ func TestProgramsComeBack(t *testing.T) {
 	random := rand.New(rand.NewSource(10))
 	for range 500 {
 		p := someProgram(random)
-		text, e := Print(p)
+		text, e := listing.Print(p)
 		if e != api.OK {
 			t.Fatal(p, e)
 		}
-		got, n, e := Read(text)
+		got, n, e := listing.Read(text)
 		wanted, _ := code.Print(p)
 		if bytes, _ := code.Print(got); bytes != wanted || n != 0 || e != api.OK {
 			t.Fatal(text, got, n, e)
@@ -174,8 +175,8 @@ func TestProgramsComeBack(t *testing.T) {
 		}
 		b := []byte(text)
 		b[random.Intn(len(b))] = " \n0159abrx"[random.Intn(10)]
-		if q, _, e := Read(string(b)); e == api.OK {
-			if again, _ := Print(q); again != string(b) {
+		if q, _, e := listing.Read(string(b)); e == api.OK {
+			if again, _ := listing.Print(q); again != string(b) {
 				t.Fatalf("%q", b)
 			}
 		}

@@ -1,4 +1,4 @@
-package model
+package model_test
 
 import (
 	"math/rand"
@@ -6,14 +6,15 @@ import (
 	"testing"
 
 	"rondeau/api"
+	"rondeau/model"
 	"rondeau/ring"
 )
 
 const top = 1<<64 - 1
 
-func must(t *testing.T, spec api.Ring) *Model {
+func must(t *testing.T, spec api.Ring) *model.Model {
 	t.Helper()
-	m, e := New(spec)
+	m, e := model.New(spec)
 	if e != api.OK {
 		t.Fatal(spec, e)
 	}
@@ -64,7 +65,7 @@ func TestQueue(t *testing.T) {
 // P14.1: wrong rings, readers and objects.
 func TestErrors(t *testing.T) {
 	for _, spec := range []api.Ring{{}, {Kind: 1, Cap: 1, Readers: 2}, {Kind: 2, Cap: 65, Readers: 1}, {Kind: 2, Cap: 1, Readers: 9}, {Kind: 3, Cap: 1, Readers: 1}} {
-		if m, e := New(spec); m != nil || e != api.ErrArg {
+		if m, e := model.New(spec); m != nil || e != api.ErrArg {
 			t.Error(spec, e)
 		}
 	}
@@ -76,7 +77,7 @@ func TestErrors(t *testing.T) {
 			t.Error(j, v, e)
 		}
 	}
-	var none *Model
+	var none *model.Model
 	_, e1 := none.Put(1)
 	_, e2 := none.Get(-1)
 	if e1 != api.ErrNil || e2 != api.ErrNil || none.Close() != api.ErrNil || len(none.Rest(0)) != 0 {
@@ -124,7 +125,7 @@ type client struct {
 }
 
 // begin begins an operation on a ring and does it whole on the log.
-func begin(t *testing.T, r *ring.Ring, m *Model, c *client, v uint64) {
+func begin(t *testing.T, r *ring.Ring, m *model.Model, c *client, v uint64) {
 	var want uint64
 	var e, wanted api.Errno
 	if c.sends {

@@ -1,15 +1,16 @@
-package octet
+package octet_test
 
 import (
 	"math/rand"
 	"testing"
 
 	"rondeau/api"
+	"rondeau/octet"
 )
 
 // P1.1: each read moves on by what it read.
 func TestReadsInOrder(t *testing.T) {
-	r := New("\x01\x02\x03\x04\x05\x06\x87z")
+	r := octet.New("\x01\x02\x03\x04\x05\x06\x87z")
 	if r.At() != 0 || r.Left() != 8 {
 		t.Error("a new reader is at", r.At(), r.Left())
 	}
@@ -32,7 +33,7 @@ func TestReadsInOrder(t *testing.T) {
 
 // P1.1: what can't be read is an error, and nothing is read.
 func TestReadsPastTheEnd(t *testing.T) {
-	r := New("\x01\x02\x03")
+	r := octet.New("\x01\x02\x03")
 	if s, e := r.Take(-1); s != "" || e != api.ErrArg || r.At() != 0 {
 		t.Error(s, e, r.At())
 	}
@@ -61,7 +62,7 @@ func TestReadsPastTheEnd(t *testing.T) {
 
 // P1.1: a nil reader says so before anything else.
 func TestNilReader(t *testing.T) {
-	var r *Reader
+	var r *octet.Reader
 	if b, e := r.Byte(); b != 0 || e != api.ErrNil {
 		t.Error(b, e)
 	}
@@ -80,7 +81,7 @@ func TestNilReader(t *testing.T) {
 
 // P1.2: a writer gives all that was appended, in order.
 func TestWrites(t *testing.T) {
-	var w Writer
+	var w octet.Writer
 	if w.String() != "" {
 		t.Error("a new writer has bytes")
 	}
@@ -104,7 +105,7 @@ func TestWrites(t *testing.T) {
 
 // P1.2: a nil writer takes nothing.
 func TestNilWriter(t *testing.T) {
-	var w *Writer
+	var w *octet.Writer
 	w.Put(1, 2)
 	w.Text("a")
 	w.Four(3)
@@ -117,7 +118,7 @@ func TestNilWriter(t *testing.T) {
 func TestWrittenIsRead(t *testing.T) {
 	random := rand.New(rand.NewSource(1))
 	for range 200 {
-		var w Writer
+		var w octet.Writer
 		var wanted []byte
 		for range random.Intn(20) {
 			part := make([]byte, random.Intn(6))
@@ -132,7 +133,7 @@ func TestWrittenIsRead(t *testing.T) {
 			w.Four(n)
 			wanted = append(wanted, byte(n), byte(n>>8), byte(n>>16), byte(n>>24))
 		}
-		r := New(w.String())
+		r := octet.New(w.String())
 		var got []byte
 		for r.Left() > 0 {
 			if random.Intn(2) == 0 {
@@ -152,9 +153,9 @@ func TestWrittenIsRead(t *testing.T) {
 // P1.3: a number is read as it was written.
 func TestFourIsRead(t *testing.T) {
 	for _, n := range []uint32{0, 1, 255, 256, 1 << 16, 1 << 24, 0x01020304, 1<<32 - 1} {
-		var w Writer
+		var w octet.Writer
 		w.Four(n)
-		if got, e := New(w.String()).Four(); got != n || e != api.OK {
+		if got, e := octet.New(w.String()).Four(); got != n || e != api.OK {
 			t.Error(n, got, e)
 		}
 	}

@@ -1,4 +1,4 @@
-package order
+package order_test
 
 import (
 	"reflect"
@@ -8,6 +8,7 @@ import (
 	"rondeau/api"
 	"rondeau/event"
 	"rondeau/listing"
+	"rondeau/order"
 )
 
 func program(t *testing.T, text string) api.Program {
@@ -55,7 +56,7 @@ func TestNeeds(t *testing.T) {
 		// Rings of other indices do not matter.
 		{"queue 1\nqueue 1\nthread\nsend r1 r2 0 wait\nthread\nsend r1 r2 1 wait\n", "0 claim 0 0\n1 claim 1 0\n", [][]int{nil, nil}},
 	} {
-		got, n, e := Needs(program(t, s.program), events(t, s.events))
+		got, n, e := order.Needs(program(t, s.program), events(t, s.events))
 		if n != 0 || e != api.OK || len(got) != len(s.want) {
 			t.Error(s, got, n, e)
 			continue
@@ -86,19 +87,19 @@ func TestErrors(t *testing.T) {
 		{p, []api.Event{{Kind: api.EClaim}, {Kind: api.EHalt, Thread: -1}}, nil, 1, api.ErrOrder},
 		{p, []api.Event{{Kind: api.EClaim}, {Kind: api.EClaim, Thread: 2}}, nil, 1, api.ErrOrder},
 	} {
-		if got, n, e := Needs(s.program, s.events); len(got) != 0 || n != s.number || e != s.want {
+		if got, n, e := order.Needs(s.program, s.events); len(got) != 0 || n != s.number || e != s.want {
 			t.Error(s.number, s.want, got, n, e)
 		}
-		if got, e := Closure(s.program, s.events, s.roots); len(got) != 0 || e != s.want {
+		if got, e := order.Closure(s.program, s.events, s.roots); len(got) != 0 || e != s.want {
 			t.Error(s.want, got, e)
 		}
 	}
 	for _, root := range []int{-1, 1, 1 << 62} {
-		if got, e := Closure(p, events(t, "0 claim 0 0\n"), []int{0, root}); len(got) != 0 || e != api.ErrRange {
+		if got, e := order.Closure(p, events(t, "0 claim 0 0\n"), []int{0, root}); len(got) != 0 || e != api.ErrRange {
 			t.Error(root, got, e)
 		}
 	}
-	if _, e := Closure(p, nil, []int{0}); e != api.ErrRange {
+	if _, e := order.Closure(p, nil, []int{0}); e != api.ErrRange {
 		t.Error(e)
 	}
 }
@@ -112,7 +113,7 @@ func TestClosure(t *testing.T) {
 		{[]int{4, 2, 4}, []int{0, 1, 2, 4}}, {[]int{5, 0}, []int{0, 1, 2, 3, 5}}, {[]int{3, 2, 1}, []int{1, 2, 3}},
 	} {
 		given := slices.Clone(s.roots)
-		if got, e := Closure(p, l, s.roots); !slices.Equal(got, s.want) || e != api.OK || !slices.Equal(given, s.roots) {
+		if got, e := order.Closure(p, l, s.roots); !slices.Equal(got, s.want) || e != api.OK || !slices.Equal(given, s.roots) {
 			t.Error(s, got, e)
 		}
 	}
@@ -132,15 +133,15 @@ func TestFree(t *testing.T) {
 		{"0 see 1\n", "1 see 1\n", true}, {"0 spin\n", "1 halt\n", true},
 	} {
 		a, b := events(t, s.a)[0], events(t, s.b)[0]
-		if Free(a, b) != s.want || Free(b, a) != s.want {
+		if order.Free(a, b) != s.want || order.Free(b, a) != s.want {
 			t.Error(s)
 		}
 	}
 	// For any events: those of no kind use no ring.
-	if !Free(api.Event{Thread: -9, Kind: 99, Ring: 4}, api.Event{Kind: api.EClaim, Ring: 4}) || Free(api.Event{Thread: 50}, api.Event{Thread: 50}) {
+	if !order.Free(api.Event{Thread: -9, Kind: 99, Ring: 4}, api.Event{Kind: api.EClaim, Ring: 4}) || order.Free(api.Event{Thread: 50}, api.Event{Thread: 50}) {
 		t.Error("other events")
 	}
-	if Free(api.Event{Kind: api.EClaim, Ring: 90}, api.Event{Thread: 1, Kind: api.ENo, Ring: 90}) {
+	if order.Free(api.Event{Kind: api.EClaim, Ring: 90}, api.Event{Thread: 1, Kind: api.ENo, Ring: 90}) {
 		t.Error("other rings")
 	}
 }
@@ -149,10 +150,10 @@ func TestFree(t *testing.T) {
 func TestDense(t *testing.T) {
 	l := []api.Event{{Thread: 7}, {Thread: 0}, {Thread: 8}, {Thread: -1}, {Thread: 7, Kind: 99}}
 	want := [][]int{{1}, nil, nil, nil, nil, nil, nil, {0, 4}}
-	if got := Dense(l); !reflect.DeepEqual(got, want) {
+	if got := order.Dense(l); !reflect.DeepEqual(got, want) {
 		t.Error(got)
 	}
-	if got := Dense(nil); len(got) != 8 {
+	if got := order.Dense(nil); len(got) != 8 {
 		t.Error(got)
 	}
 }

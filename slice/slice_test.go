@@ -1,4 +1,4 @@
-package slice
+package slice_test
 
 import (
 	"reflect"
@@ -8,6 +8,7 @@ import (
 	"rondeau/api"
 	"rondeau/event"
 	"rondeau/listing"
+	"rondeau/slice"
 )
 
 const text = "queue 1\nthread\nset r1 9\nsend r1 r2 0 wait\nthread\nrecv r1 r2 0 wait 0\nsee r1\nthread\ndraw r1\nsee r1\n"
@@ -43,21 +44,21 @@ func TestSlices(t *testing.T) {
 		{[]int{0, 1, 2}, []int{0, 1, 2, 3, 4, 5, 6, 7}, [][]uint64{nil, {9}, {5}}},
 	} {
 		given := slices.Clone(s.threads)
-		if got, e := Of(p, l, s.threads); !slices.Equal(got, s.want) || e != api.OK || !slices.Equal(given, s.threads) {
+		if got, e := slice.Of(p, l, s.threads); !slices.Equal(got, s.want) || e != api.OK || !slices.Equal(given, s.threads) {
 			t.Error(s, got, e)
 		}
-		got, e := Seen(p, l, s.threads)
+		got, e := slice.Seen(p, l, s.threads)
 		if e != api.OK || !slices.EqualFunc(got, s.seen, slices.Equal) {
 			t.Error(s, got, e)
 		}
 	}
-	if got, e := Sizes(p, l); !slices.Equal(got, []int{3, 5, 2}) || e != api.OK {
+	if got, e := slice.Sizes(p, l); !slices.Equal(got, []int{3, 5, 2}) || e != api.OK {
 		t.Error(got, e)
 	}
-	if got, e := Sizes(p, nil); !slices.Equal(got, []int{0, 0, 0}) || e != api.OK {
+	if got, e := slice.Sizes(p, nil); !slices.Equal(got, []int{0, 0, 0}) || e != api.OK {
 		t.Error(got, e)
 	}
-	if got, e := Of(p, nil, []int{1}); len(got) != 0 || e != api.OK {
+	if got, e := slice.Of(p, nil, []int{1}); len(got) != 0 || e != api.OK {
 		t.Error(got, e)
 	}
 }
@@ -75,13 +76,13 @@ func TestErrors(t *testing.T) {
 		{api.Program{}, long, []int{9}, api.ErrArg}, {p, long, []int{9}, api.ErrLong}, {p, l[2:], []int{9}, api.ErrOrder}, {p, []api.Event{{}}, nil, api.ErrOrder},
 		{p, l, []int{3}, api.ErrRange}, {p, l, []int{0, -1}, api.ErrRange}, {p, nil, []int{8}, api.ErrRange},
 	} {
-		if got, e := Of(s.program, s.events, s.threads); len(got) != 0 || e != s.want {
+		if got, e := slice.Of(s.program, s.events, s.threads); len(got) != 0 || e != s.want {
 			t.Error(s.want, got, e)
 		}
-		if got, e := Seen(s.program, s.events, s.threads); len(got) != 0 || e != s.want {
+		if got, e := slice.Seen(s.program, s.events, s.threads); len(got) != 0 || e != s.want {
 			t.Error(s.want, got, e)
 		}
-		if got, e := Sizes(s.program, s.events); s.want != api.ErrRange && (len(got) != 0 || e != s.want) {
+		if got, e := slice.Sizes(s.program, s.events); s.want != api.ErrRange && (len(got) != 0 || e != s.want) {
 			t.Error(s.want, got, e)
 		}
 	}
@@ -90,7 +91,7 @@ func TestErrors(t *testing.T) {
 // Rule 5: the lists of what was seen share nothing.
 func TestNothingIsShared(t *testing.T) {
 	p, l := given(t)
-	seen, _ := Seen(p, l, []int{1, 1})
+	seen, _ := slice.Seen(p, l, []int{1, 1})
 	seen[0][0] = 4
 	if !reflect.DeepEqual(seen[1], []uint64{9}) {
 		t.Error(seen)

@@ -1,4 +1,4 @@
-package slots
+package slots_test
 
 import (
 	"math/rand"
@@ -6,6 +6,7 @@ import (
 	"testing"
 
 	"rondeau/api"
+	"rondeau/slots"
 )
 
 const (
@@ -14,9 +15,9 @@ const (
 	finish = 1 << 62
 )
 
-func must(t *testing.T, places, readers int) *Slots {
+func must(t *testing.T, places, readers int) *slots.Slots {
 	t.Helper()
-	s, e := New(places, readers)
+	s, e := slots.New(places, readers)
 	if e != api.OK {
 		t.Fatal(places, readers, e)
 	}
@@ -32,7 +33,7 @@ func TestNew(t *testing.T) {
 		{1, 1, api.OK}, {64, 8, api.OK}, {0, 1, api.ErrArg}, {65, 1, api.ErrArg}, {1, 0, api.ErrArg}, {1, 9, api.ErrArg},
 		{-1, 1, api.ErrArg}, {1, -1, api.ErrArg}, {1<<63 - 1, 1, api.ErrArg},
 	} {
-		if got, e := New(s.places, s.readers); e != s.want || (got == nil) != (e != api.OK) {
+		if got, e := slots.New(s.places, s.readers); e != s.want || (got == nil) != (e != api.OK) {
 			t.Error(s, e)
 		}
 	}
@@ -141,7 +142,7 @@ func TestArguments(t *testing.T) {
 
 // P12.1: a nil object.
 func TestNil(t *testing.T) {
-	var s *Slots
+	var s *slots.Slots
 	if s.Free(0) || s.Has(0, 0) || len(s.All()) != 0 {
 		t.Error("nil has something")
 	}
@@ -184,7 +185,7 @@ func TestLoad(t *testing.T) {
 		{1, 1, []api.Slot{{Stamp: 1<<63 + 1, Left: 1}}, api.ErrForm},
 		{1, 1, []api.Slot{{Stamp: top, Left: 1}}, api.ErrForm},
 	} {
-		got, e := Load(s.places, s.readers, s.list)
+		got, e := slots.Load(s.places, s.readers, s.list)
 		if e != s.want || (got == nil) != (e != api.OK) {
 			t.Error(s, e)
 		}
@@ -197,7 +198,7 @@ func TestLoad(t *testing.T) {
 // P12.2, rule 5: neither arguments nor results are shared.
 func TestNothingIsShared(t *testing.T) {
 	list := []api.Slot{{}, {Stamp: 2}}
-	s, _ := Load(2, 1, list)
+	s, _ := slots.Load(2, 1, list)
 	list[0].Stamp = 99
 	all := s.All()
 	all[1].Stamp = 99
@@ -208,7 +209,7 @@ func TestNothingIsShared(t *testing.T) {
 
 // P12.1: a slot at the end of the tickets.
 func TestLastTicket(t *testing.T) {
-	s, e := Load(1, 1, []api.Slot{{Stamp: 1<<63 - 2}})
+	s, e := slots.Load(1, 1, []api.Slot{{Stamp: 1<<63 - 2}})
 	if e != api.OK || !s.Free(last) {
 		t.Fatal(e)
 	}
@@ -256,7 +257,7 @@ func TestGotIsPut(t *testing.T) {
 				}
 			}
 			if random.Intn(10) == 0 {
-				again, e := Load(places, readers, s.All())
+				again, e := slots.Load(places, readers, s.All())
 				if e != api.OK {
 					t.Fatal(s.All(), e)
 				}

@@ -1,4 +1,4 @@
-package snap
+package snap_test
 
 import (
 	"math/rand"
@@ -8,6 +8,7 @@ import (
 	"rondeau/api"
 	"rondeau/fabric"
 	"rondeau/listing"
+	"rondeau/snap"
 	"rondeau/varint"
 )
 
@@ -41,10 +42,10 @@ func TestEncoding(t *testing.T) {
 		state api.State
 		text  string
 	}{{api.State{}, "\x00\x00\x00\x00\x00"}, {full(), fullText}} {
-		if got, e := Print(s.state); got != s.text || e != api.OK {
+		if got, e := snap.Print(s.state); got != s.text || e != api.OK {
 			t.Errorf("%x %d, wanted %x", got, e, s.text)
 		}
-		if got, e := Read(s.text); !Same(got, s.state) || e != api.OK {
+		if got, e := snap.Read(s.text); !snap.Same(got, s.state) || e != api.OK {
 			t.Error(got, e)
 		}
 	}
@@ -75,11 +76,11 @@ func TestEncodable(t *testing.T) {
 		{thread(api.ThreadState{Status: 65536}), api.ErrArg}, {thread(api.ThreadState{Status: -1}), api.ErrArg},
 		{thread(api.ThreadState{At: 65535, Phase: 65535, Ring: 65535, Status: 65535, Ticket: top}), api.OK},
 	} {
-		text, e := Print(s.state)
+		text, e := snap.Print(s.state)
 		if e != s.want || e != api.OK && text != "" {
 			t.Error(i, e)
 		}
-		if got, e := Read(text); s.want == api.OK && (e != api.OK || !Same(got, s.state)) {
+		if got, e := snap.Read(text); s.want == api.OK && (e != api.OK || !snap.Same(got, s.state)) {
 			t.Error(i, got, e)
 		}
 	}
@@ -98,12 +99,12 @@ func TestReadErrors(t *testing.T) {
 		"\x00\x01\x00\x09" + thread, "\x00\x01\x00\x00\x02\x00\x00\x00\x00", "\x00\x01\x00\x00\x00\x41" + thread,
 		"\x00\x01\x00\x00\x00\x01\x00\x00\x80\x80\x04\x00\x00\x00",
 	} {
-		if got, e := Read(s); e != api.ErrForm || !reflect.DeepEqual(got, api.State{}) {
+		if got, e := snap.Read(s); e != api.ErrForm || !reflect.DeepEqual(got, api.State{}) {
 			t.Errorf("%x: %v %d", s, got, e)
 		}
 	}
 	for i := range len(fullText) {
-		if _, e := Read(fullText[:i]); e != api.ErrForm {
+		if _, e := snap.Read(fullText[:i]); e != api.ErrForm {
 			t.Error(i, e)
 		}
 	}
@@ -129,15 +130,15 @@ func TestSame(t *testing.T) {
 		func(s *api.State) { s.Ended = false },
 	} {
 		other := full()
-		if !Same(full(), other) {
+		if !snap.Same(full(), other) {
 			t.Error(i, "before")
 		}
 		change(&other)
-		if Same(full(), other) || Same(other, full()) {
+		if snap.Same(full(), other) || snap.Same(other, full()) {
 			t.Error(i)
 		}
 	}
-	if !Same(api.State{}, api.State{Threads: []api.ThreadState{}, Rings: []api.RingState{}}) {
+	if !snap.Same(api.State{}, api.State{Threads: []api.ThreadState{}, Rings: []api.RingState{}}) {
 		t.Error("nil and empty")
 	}
 }
@@ -147,12 +148,12 @@ func TestLoad(t *testing.T) {
 	p, _, _ := listing.Read("queue 1\nthread\nsend r1 r2 0 wait\nsee r2\n")
 	f, _ := fabric.New(p)
 	f.Do(api.Event{Kind: api.EClaim})
-	text, e := Print(f.State())
+	text, e := snap.Print(f.State())
 	if e != api.OK {
 		t.Fatal(e)
 	}
-	g, e := Load(p, text)
-	if e != api.OK || !Same(g.State(), f.State()) {
+	g, e := snap.Load(p, text)
+	if e != api.OK || !snap.Same(g.State(), f.State()) {
 		t.Fatal(e)
 	}
 	if g.Do(api.Event{Kind: api.EPublish}) != api.OK || g.Do(api.Event{Kind: api.ESee}) != api.OK {
@@ -167,7 +168,7 @@ func TestLoad(t *testing.T) {
 		{api.Program{}, "", api.ErrArg}, {api.Program{}, text, api.ErrArg},
 		{p, "", api.ErrForm}, {p, text + "\x00", api.ErrForm}, {p, fullText, api.ErrForm}, {p, "\x00\x00\x00\x00\x00", api.ErrForm}, {other, text, api.ErrForm},
 	} {
-		if f, e := Load(s.program, s.text); f != nil || e != s.want {
+		if f, e := snap.Load(s.program, s.text); f != nil || e != s.want {
 			t.Errorf("%x: %d", s.text, e)
 		}
 	}
@@ -181,8 +182,8 @@ func TestOnlyEncodings(t *testing.T) {
 		for range 1 + random.Intn(2) {
 			b[random.Intn(len(b))] ^= 1 << random.Intn(8)
 		}
-		if got, e := Read(string(b)); e == api.OK {
-			if again, e := Print(got); again != string(b) || e != api.OK {
+		if got, e := snap.Read(string(b)); e == api.OK {
+			if again, e := snap.Print(got); again != string(b) || e != api.OK {
 				t.Fatalf("%x %x", b, again)
 			}
 		}

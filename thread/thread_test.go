@@ -1,4 +1,4 @@
-package thread
+package thread_test
 
 import (
 	"math/rand"
@@ -7,6 +7,7 @@ import (
 
 	"rondeau/api"
 	"rondeau/listing"
+	"rondeau/thread"
 )
 
 const top = 1<<64 - 1
@@ -21,9 +22,9 @@ func instrs(t *testing.T, lines ...string) []api.Instr {
 	return p.Threads[0]
 }
 
-func next(t *testing.T, l []api.Instr, s api.ThreadState) (api.ThreadState, Ask) {
+func next(t *testing.T, l []api.Instr, s api.ThreadState) (api.ThreadState, thread.Ask) {
 	t.Helper()
-	n, ask, e := Next(l, s)
+	n, ask, e := thread.Next(l, s)
 	if e != api.OK {
 		t.Fatal(s, e)
 	}
@@ -45,10 +46,10 @@ func TestCode(t *testing.T) {
 		{[]api.Instr{{Op: api.OSend, C: 7}}, true},
 		{make([]api.Instr, 257), false},
 	} {
-		if Code(s.list) != s.want || Right(s.list, api.ThreadState{}) != s.want {
+		if thread.Code(s.list) != s.want || thread.Right(s.list, api.ThreadState{}) != s.want {
 			t.Error(s)
 		}
-		if _, _, e := Next(s.list, api.ThreadState{}); (e == api.OK) != s.want || !s.want && e != api.ErrArg {
+		if _, _, e := thread.Next(s.list, api.ThreadState{}); (e == api.OK) != s.want || !s.want && e != api.ErrArg {
 			t.Error(s, e)
 		}
 	}
@@ -56,7 +57,7 @@ func TestCode(t *testing.T) {
 	for i := range long {
 		long[i] = api.Instr{Op: api.OHalt}
 	}
-	if !Code(long) || Code(append(long, api.Instr{Op: api.OHalt})) {
+	if !thread.Code(long) || thread.Code(append(long, api.Instr{Op: api.OHalt})) {
 		t.Error("256 instructions")
 	}
 }
@@ -93,11 +94,11 @@ func TestRight(t *testing.T) {
 		{api.ThreadState{Phase: 3}, false},
 		{api.ThreadState{Phase: -1}, false},
 	} {
-		if Right(l, s.state) != s.want {
+		if thread.Right(l, s.state) != s.want {
 			t.Error(s)
 		}
-		_, _, e := Next(l, s.state)
-		_, e2 := Do(l, s.state, api.Event{}, 0)
+		_, _, e := thread.Next(l, s.state)
+		_, e2 := thread.Do(l, s.state, api.Event{}, 0)
 		if s.want && (e != api.OK || e2 != api.ErrForm) || !s.want && (e != api.ErrArg || e2 != api.ErrArg) {
 			t.Error(s, e, e2)
 		}
@@ -136,18 +137,18 @@ func TestRequests(t *testing.T) {
 	regs := [8]uint64{10, 11, 12, 13, 14, 15, 16, 17}
 	for _, s := range []struct {
 		line string
-		want Ask
+		want thread.Ask
 	}{
-		{"send r1 r2 3 timed", Ask{Kind: Send, Ring: 3, Mode: 2, Value: 11}},
-		{"send r7 r2 0 try", Ask{Kind: Send, Value: 17}},
-		{"recv r1 r2 3 wait 5", Ask{Kind: Recv, Ring: 3, Mode: 1, Reader: 5}},
-		{"close 4", Ask{Kind: Close, Ring: 4}},
-		{"clock r1", Ask{Kind: Clock}},
-		{"draw r1", Ask{Kind: Draw}},
-		{"read r1 r2", Ask{Kind: Read}},
-		{"see r1", Ask{Kind: See, Value: 11}},
-		{"halt", Ask{Kind: Halt}},
-		{"jmp 0", Ask{Kind: Spin}},
+		{"send r1 r2 3 timed", thread.Ask{Kind: thread.Send, Ring: 3, Mode: 2, Value: 11}},
+		{"send r7 r2 0 try", thread.Ask{Kind: thread.Send, Value: 17}},
+		{"recv r1 r2 3 wait 5", thread.Ask{Kind: thread.Recv, Ring: 3, Mode: 1, Reader: 5}},
+		{"close 4", thread.Ask{Kind: thread.Close, Ring: 4}},
+		{"clock r1", thread.Ask{Kind: thread.Clock}},
+		{"draw r1", thread.Ask{Kind: thread.Draw}},
+		{"read r1 r2", thread.Ask{Kind: thread.Read}},
+		{"see r1", thread.Ask{Kind: thread.See, Value: 11}},
+		{"halt", thread.Ask{Kind: thread.Halt}},
+		{"jmp 0", thread.Ask{Kind: thread.Spin}},
 	} {
 		l := instrs(t, s.line)
 		if got, ask := next(t, l, api.ThreadState{Regs: regs}); ask != s.want || got.Regs != regs {
@@ -155,20 +156,20 @@ func TestRequests(t *testing.T) {
 		}
 		for _, status := range []int{api.THalted, api.TSpun} {
 			given := api.ThreadState{Regs: regs, Status: status}
-			if got, ask := next(t, l, given); ask != (Ask{}) || !Same(got, given) {
+			if got, ask := next(t, l, given); ask != (thread.Ask{}) || !thread.Same(got, given) {
 				t.Error(s.line, ask)
 			}
 		}
 	}
-	if _, ask := next(t, instrs(t, "see r1"), api.ThreadState{At: 1}); ask != (Ask{Kind: Halt}) {
+	if _, ask := next(t, instrs(t, "see r1"), api.ThreadState{At: 1}); ask != (thread.Ask{Kind: thread.Halt}) {
 		t.Error(ask)
 	}
 	given := api.ThreadState{Phase: 1, Ring: 3, Ticket: 44, Regs: regs, Seen: []uint64{1}}
-	if got, ask := next(t, instrs(t, "send r1 r2 3 timed"), given); ask != (Ask{Kind: Publish, Ring: 3, Ticket: 44, Value: 11}) || !Same(got, given) {
+	if got, ask := next(t, instrs(t, "send r1 r2 3 timed"), given); ask != (thread.Ask{Kind: thread.Publish, Ring: 3, Ticket: 44, Value: 11}) || !thread.Same(got, given) {
 		t.Error(ask)
 	}
 	given = api.ThreadState{Phase: 2, Ring: 3, Ticket: 44, Regs: regs}
-	if got, ask := next(t, instrs(t, "recv r1 r2 3 timed 6"), given); ask != (Ask{Kind: Release, Ring: 3, Ticket: 44, Reader: 6}) || !Same(got, given) {
+	if got, ask := next(t, instrs(t, "recv r1 r2 3 timed 6"), given); ask != (thread.Ask{Kind: thread.Release, Ring: 3, Ticket: 44, Reader: 6}) || !thread.Same(got, given) {
 		t.Error(ask)
 	}
 }
@@ -178,20 +179,20 @@ func TestFuel(t *testing.T) {
 	// A loop of two instructions, gone through r1 times.
 	l := instrs(t, "sub r1 r1 r2", "jnz r1 0", "see r1")
 	got, ask := next(t, l, api.ThreadState{Regs: [8]uint64{1: 128, 2: 1}})
-	if ask.Kind != See || got.At != 2 || got.Regs[1] != 0 {
+	if ask.Kind != thread.See || got.At != 2 || got.Regs[1] != 0 {
 		t.Error(got, ask)
 	}
 	got, ask = next(t, l, api.ThreadState{Regs: [8]uint64{1: 129, 2: 1}})
-	if ask != (Ask{Kind: Spin}) || got.At != 0 || got.Regs[1] != 1 {
+	if ask != (thread.Ask{Kind: thread.Spin}) || got.At != 0 || got.Regs[1] != 1 {
 		t.Error(got, ask)
 	}
 	// With a first instruction ahead of the loop the limit falls inside it.
 	l = instrs(t, "set r2 1", "sub r1 r1 r2", "jnz r1 1", "halt")
 	got, ask = next(t, l, api.ThreadState{Regs: [8]uint64{1: 200}})
-	if ask != (Ask{Kind: Spin}) || got.At != 2 || got.Regs[1] != 200-128 {
+	if ask != (thread.Ask{Kind: thread.Spin}) || got.At != 2 || got.Regs[1] != 200-128 {
 		t.Error(got, ask)
 	}
-	spun, e := Do(l, api.ThreadState{Regs: [8]uint64{1: 200}}, api.Event{Kind: api.ESpin}, 0)
+	spun, e := thread.Do(l, api.ThreadState{Regs: [8]uint64{1: 200}}, api.Event{Kind: api.ESpin}, 0)
 	if e != api.OK || spun.Status != api.TSpun || spun.At != 2 || spun.Regs[1] != 200-128 {
 		t.Error(spun, e)
 	}
@@ -199,7 +200,7 @@ func TestFuel(t *testing.T) {
 	for range 256 {
 		straight = append(straight, "set r1 1")
 	}
-	if got, ask = next(t, instrs(t, straight...), api.ThreadState{}); ask.Kind != Halt || got.At != 256 {
+	if got, ask = next(t, instrs(t, straight...), api.ThreadState{}); ask.Kind != thread.Halt || got.At != 256 {
 		t.Error(got, ask)
 	}
 }
@@ -247,12 +248,12 @@ func TestDo(t *testing.T) {
 		s.from.Regs = regs
 		s.event.Thread = 5
 		l := instrs(t, s.line)
-		if got, e := Do(l, s.from, s.event, 99); e != api.OK || !Same(got, s.want) || !Right(l, got) {
+		if got, e := thread.Do(l, s.from, s.event, 99); e != api.OK || !thread.Same(got, s.want) || !thread.Right(l, got) {
 			t.Error(s.line, s.event, got, e)
 		}
 	}
 	// The plain instructions before it are executed, too.
-	if got, e := Do(instrs(t, "set r1 5", "see r1", "halt"), api.ThreadState{}, api.Event{Kind: api.ESee, Value: 5}, 0); e != api.OK || got.At != 2 || got.Regs[1] != 5 {
+	if got, e := thread.Do(instrs(t, "set r1 5", "see r1", "halt"), api.ThreadState{}, api.Event{Kind: api.ESee, Value: 5}, 0); e != api.OK || got.At != 2 || got.Regs[1] != 5 {
 		t.Error(got, e)
 	}
 }
@@ -295,11 +296,11 @@ func TestMatches(t *testing.T) {
 			if matching[kind] {
 				want = api.OK
 			}
-			got, err := Do(l, api.ThreadState{}, e, 0)
-			if err != want || err != api.OK && !Same(got, api.ThreadState{}) {
+			got, err := thread.Do(l, api.ThreadState{}, e, 0)
+			if err != want || err != api.OK && !thread.Same(got, api.ThreadState{}) {
 				t.Error(s.lines, e, err)
 			}
-			if _, err := Do(l, api.ThreadState{Status: api.THalted}, e, 0); err != api.ErrOrder {
+			if _, err := thread.Do(l, api.ThreadState{Status: api.THalted}, e, 0); err != api.ErrOrder {
 				t.Error(s.lines, e, err)
 			}
 		}
@@ -325,7 +326,7 @@ func TestMatches(t *testing.T) {
 		{"see r1", api.ThreadState{}, api.Event{Kind: api.EHalt, Thread: 8}, api.ErrForm},
 		{"see r1", api.ThreadState{At: 9}, api.Event{Kind: 99}, api.ErrArg},
 	} {
-		if _, e := Do(instrs(t, s.line), s.from, s.event, 0); e != s.want {
+		if _, e := thread.Do(instrs(t, s.line), s.from, s.event, 0); e != s.want {
 			t.Error(s, e)
 		}
 	}
@@ -341,11 +342,11 @@ func TestSame(t *testing.T) {
 	other[0].At, other[1].Phase, other[2].Ring, other[3].Status, other[4].Ticket = 0, 0, 0, 0, 0
 	other[5].Regs[7], other[6].Seen, other[7].Seen = 0, []uint64{1}, []uint64{1, 3}
 	for i, o := range other {
-		if Same(full, o) || !Same(o, o) {
+		if thread.Same(full, o) || !thread.Same(o, o) {
 			t.Error(i)
 		}
 	}
-	if !Same(api.ThreadState{}, api.ThreadState{Seen: []uint64{}}) {
+	if !thread.Same(api.ThreadState{}, api.ThreadState{Seen: []uint64{}}) {
 		t.Error("nil and empty")
 	}
 }
@@ -355,7 +356,7 @@ func TestNothingIsShared(t *testing.T) {
 	seen := append(make([]uint64, 0, 9), 7)
 	l := instrs(t, "see r1")
 	n, _ := next(t, l, api.ThreadState{Seen: seen})
-	d, _ := Do(l, api.ThreadState{Seen: seen}, api.Event{Kind: api.ESee}, 0)
+	d, _ := thread.Do(l, api.ThreadState{Seen: seen}, api.Event{Kind: api.ESee}, 0)
 	n.Seen[0], d.Seen[0] = 1, 2
 	if seen[0] != 7 || seen[:2][1] != 0 || n.Seen[0] != 1 {
 		t.Error(seen, n, d)
@@ -377,7 +378,7 @@ func TestConsequences(t *testing.T) {
 		for range 6 {
 			n, ask := next(t, l, s)
 			again, ask2 := next(t, l, n)
-			if ask != ask2 || ask.Kind != Spin && !Same(n, again) || !Right(l, n) {
+			if ask != ask2 || ask.Kind != thread.Spin && !thread.Same(n, again) || !thread.Right(l, n) {
 				t.Fatal(lines, s, n, again, ask, ask2)
 			}
 			for kind := 1; kind <= 15; kind++ {
@@ -388,8 +389,8 @@ func TestConsequences(t *testing.T) {
 				if kind == api.ESee {
 					e.Value = ask.Value
 				}
-				if after, err := Do(l, s, e, 1); err == api.OK {
-					if !Right(l, after) {
+				if after, err := thread.Do(l, s, e, 1); err == api.OK {
+					if !thread.Right(l, after) {
 						t.Fatal(lines, s, e, after)
 					}
 					s = after

@@ -1,4 +1,4 @@
-package trace
+package trace_test
 
 import (
 	"math/rand"
@@ -16,6 +16,7 @@ import (
 	"rondeau/fabric"
 	"rondeau/listing"
 	"rondeau/snap"
+	"rondeau/trace"
 	"rondeau/varint"
 )
 
@@ -41,26 +42,26 @@ func events(t *testing.T, text string) []api.Event {
 	return l
 }
 
-func must2(t *testing.T, every int) (api.Program, Trace) {
+func must2(t *testing.T, every int) (api.Program, trace.Trace) {
 	t.Helper()
 	p := program(t, pair)
-	made, e := Make(p, every, events(t, record))
+	made, e := trace.Make(p, every, events(t, record))
 	if e != api.OK {
 		t.Fatal(e)
 	}
 	return p, made
 }
 
-func text(t *testing.T, made Trace) string {
+func text(t *testing.T, made trace.Trace) string {
 	t.Helper()
-	s, e := Print(made)
+	s, e := trace.Print(made)
 	if e != api.OK {
 		t.Fatal(e)
 	}
 	return s
 }
 
-func kinds(parts []Part) []int {
+func kinds(parts []trace.Part) []int {
 	var l []int
 	for _, p := range parts {
 		l = append(l, p.Kind)
@@ -82,11 +83,11 @@ func TestMake(t *testing.T) {
 		t.Error(made)
 	}
 	f, _ := fabric.New(p)
-	var want []Mark
+	var want []trace.Mark
 	for i, e := range events(t, record) {
 		f.Do(e)
 		if i == 1 || i == 3 {
-			want = append(want, Mark{At: i + 1, State: f.State()})
+			want = append(want, trace.Mark{At: i + 1, State: f.State()})
 		}
 	}
 	if !reflect.DeepEqual(made.Marks, want) {
@@ -113,7 +114,7 @@ func TestMakeErrors(t *testing.T) {
 		{api.Program{}, 2, long, api.ErrArg}, {p, 0, long, api.ErrArg}, {p, 1025, l, api.ErrArg}, {p, -1, l, api.ErrArg},
 		{p, 1024, long, api.ErrLong}, {p, 1, l[1:], api.ErrOrder}, {p, 1, append(slices.Clone(l), l[4]), api.ErrOrder}, {p, 1, []api.Event{{}}, api.ErrOrder},
 	} {
-		if made, e := Make(s.program, s.every, s.events); e != s.want || !reflect.DeepEqual(made, Trace{}) {
+		if made, e := trace.Make(s.program, s.every, s.events); e != s.want || !reflect.DeepEqual(made, trace.Trace{}) {
 			t.Error(s.every, s.want, e)
 		}
 	}
@@ -125,25 +126,25 @@ func TestFits(t *testing.T) {
 	other := program(t, "queue 2\n"+strings.TrimPrefix(pair, "queue 1\n"))
 	for i, s := range []struct {
 		program api.Program
-		change  func(t *Trace)
+		change  func(t *trace.Trace)
 		want    api.Errno
 	}{
-		{p, func(*Trace) {}, api.OK},
-		{api.Program{}, func(*Trace) {}, api.ErrArg},
-		{other, func(*Trace) {}, api.ErrDigest},
-		{other, func(m *Trace) { m.Every = 3 }, api.ErrArg},
-		{p, func(m *Trace) { m.Sum++; m.Events[0].Ticket = 1 }, api.ErrDigest},
-		{p, func(m *Trace) { m.Threads = 3 }, api.ErrDigest},
-		{p, func(m *Trace) { m.Rings = 0 }, api.ErrDigest},
-		{p, func(m *Trace) { m.Events[4].Value = 8; m.Marks[0].State.Now = 1 }, api.ErrOrder},
-		{p, func(m *Trace) { m.Events[0].Thread = 7 }, api.ErrOrder},
-		{p, func(m *Trace) { m.Marks[0].State.Now = 1 }, api.ErrForm},
-		{p, func(m *Trace) { m.Marks[1].State.Threads = nil }, api.ErrForm},
-		{p, func(m *Trace) { m.Marks[0], m.Marks[1].State = Mark{2, m.Marks[1].State}, m.Marks[0].State }, api.ErrForm},
+		{p, func(*trace.Trace) {}, api.OK},
+		{api.Program{}, func(*trace.Trace) {}, api.ErrArg},
+		{other, func(*trace.Trace) {}, api.ErrDigest},
+		{other, func(m *trace.Trace) { m.Every = 3 }, api.ErrArg},
+		{p, func(m *trace.Trace) { m.Sum++; m.Events[0].Ticket = 1 }, api.ErrDigest},
+		{p, func(m *trace.Trace) { m.Threads = 3 }, api.ErrDigest},
+		{p, func(m *trace.Trace) { m.Rings = 0 }, api.ErrDigest},
+		{p, func(m *trace.Trace) { m.Events[4].Value = 8; m.Marks[0].State.Now = 1 }, api.ErrOrder},
+		{p, func(m *trace.Trace) { m.Events[0].Thread = 7 }, api.ErrOrder},
+		{p, func(m *trace.Trace) { m.Marks[0].State.Now = 1 }, api.ErrForm},
+		{p, func(m *trace.Trace) { m.Marks[1].State.Threads = nil }, api.ErrForm},
+		{p, func(m *trace.Trace) { m.Marks[0], m.Marks[1].State = trace.Mark{2, m.Marks[1].State}, m.Marks[0].State }, api.ErrForm},
 	} {
 		_, made := must2(t, 2)
 		s.change(&made)
-		if e := Fits(s.program, made); e != s.want {
+		if e := trace.Fits(s.program, made); e != s.want {
 			t.Error(i, e)
 		}
 	}
@@ -153,38 +154,40 @@ func TestFits(t *testing.T) {
 func TestEncodable(t *testing.T) {
 	p := program(t, pair)
 	for i, s := range []struct {
-		change func(t *Trace)
+		change func(t *trace.Trace)
 		want   api.Errno
 	}{
-		{func(*Trace) {}, api.OK},
-		{func(m *Trace) { m.Threads, m.Rings, m.Sum = 8, 8, 1 }, api.OK},
-		{func(m *Trace) { m.Threads = 9 }, api.ErrArg}, {func(m *Trace) { m.Threads = -1 }, api.ErrArg},
-		{func(m *Trace) { m.Rings = 9 }, api.ErrArg}, {func(m *Trace) { m.Rings = -1 }, api.ErrArg},
-		{func(m *Trace) { m.Every = 0 }, api.ErrArg}, {func(m *Trace) { m.Every = -2 }, api.ErrArg},
-		{func(m *Trace) { m.Every, m.Marks = 1025, nil }, api.ErrArg}, {func(m *Trace) { m.Every, m.Marks = 1024, nil }, api.OK},
-		{func(m *Trace) { m.Marks = nil }, api.ErrArg}, {func(m *Trace) { m.Marks = m.Marks[:1] }, api.ErrArg},
-		{func(m *Trace) { m.Marks = append(m.Marks, m.Marks[1]) }, api.ErrArg},
-		{func(m *Trace) { m.Marks[0].At = 1 }, api.ErrArg}, {func(m *Trace) { m.Marks[1].At = 2 }, api.ErrArg},
-		{func(m *Trace) { m.Marks[1].State.Threads[0].At = -1 }, api.ErrArg},
-		{func(m *Trace) { m.Marks[1].State = api.State{Now: 7} }, api.OK},
-		{func(m *Trace) { m.Events[4].Kind = 0 }, api.ErrArg}, {func(m *Trace) { m.Events[4].Thread = 8 }, api.ErrArg},
-		{func(m *Trace) { m.Events[4].Value = 1 << 63 }, api.OK},
-		{func(m *Trace) { m.Every, m.Marks, m.Events = 1024, make([]Mark, 64), make([]api.Event, 65537) }, api.ErrArg},
-		{func(m *Trace) { m.Events, m.Marks = nil, nil }, api.OK},
+		{func(*trace.Trace) {}, api.OK},
+		{func(m *trace.Trace) { m.Threads, m.Rings, m.Sum = 8, 8, 1 }, api.OK},
+		{func(m *trace.Trace) { m.Threads = 9 }, api.ErrArg}, {func(m *trace.Trace) { m.Threads = -1 }, api.ErrArg},
+		{func(m *trace.Trace) { m.Rings = 9 }, api.ErrArg}, {func(m *trace.Trace) { m.Rings = -1 }, api.ErrArg},
+		{func(m *trace.Trace) { m.Every = 0 }, api.ErrArg}, {func(m *trace.Trace) { m.Every = -2 }, api.ErrArg},
+		{func(m *trace.Trace) { m.Every, m.Marks = 1025, nil }, api.ErrArg}, {func(m *trace.Trace) { m.Every, m.Marks = 1024, nil }, api.OK},
+		{func(m *trace.Trace) { m.Marks = nil }, api.ErrArg}, {func(m *trace.Trace) { m.Marks = m.Marks[:1] }, api.ErrArg},
+		{func(m *trace.Trace) { m.Marks = append(m.Marks, m.Marks[1]) }, api.ErrArg},
+		{func(m *trace.Trace) { m.Marks[0].At = 1 }, api.ErrArg}, {func(m *trace.Trace) { m.Marks[1].At = 2 }, api.ErrArg},
+		{func(m *trace.Trace) { m.Marks[1].State.Threads[0].At = -1 }, api.ErrArg},
+		{func(m *trace.Trace) { m.Marks[1].State = api.State{Now: 7} }, api.OK},
+		{func(m *trace.Trace) { m.Events[4].Kind = 0 }, api.ErrArg}, {func(m *trace.Trace) { m.Events[4].Thread = 8 }, api.ErrArg},
+		{func(m *trace.Trace) { m.Events[4].Value = 1 << 63 }, api.OK},
+		{func(m *trace.Trace) {
+			m.Every, m.Marks, m.Events = 1024, make([]trace.Mark, 64), make([]api.Event, 65537)
+		}, api.ErrArg},
+		{func(m *trace.Trace) { m.Events, m.Marks = nil, nil }, api.OK},
 	} {
 		_, made := must2(t, 2)
 		s.change(&made)
-		got, e := Print(made)
+		got, e := trace.Print(made)
 		if e != s.want || (e == api.OK) == (got == "") {
 			t.Error(i, e)
 		}
-		if e := Fits(p, made); (e == api.ErrArg) != (s.want == api.ErrArg) {
+		if e := trace.Fits(p, made); (e == api.ErrArg) != (s.want == api.ErrArg) {
 			t.Error(i, e)
 		}
 		if e != api.OK {
 			continue
 		}
-		if again, e := Read(got); e != api.OK || text(t, again) != got {
+		if again, e := trace.Read(got); e != api.OK || text(t, again) != got {
 			t.Error(i, again, e)
 		}
 	}
@@ -215,7 +218,7 @@ func TestPrint(t *testing.T) {
 	if got != want {
 		t.Errorf("%x, wanted %x", got, want)
 	}
-	parts, e := Parts(got)
+	parts, e := trace.Parts(got)
 	if !slices.Equal(kinds(parts), []int{1, 2, 3, 2, 3, 2, 4}) || e != api.OK {
 		t.Error(parts, e)
 	}
@@ -238,8 +241,8 @@ func TestKinds(t *testing.T) {
 		{0, 2, []int{1, 4}}, {1, 2, []int{1, 2, 4}}, {2, 2, []int{1, 2, 3, 4}}, {3, 2, []int{1, 2, 3, 2, 4}},
 		{4, 1, []int{1, 2, 3, 2, 3, 2, 3, 2, 3, 4}}, {4, 1000, []int{1, 2, 4}},
 	} {
-		made, _ := Make(p, s.every, events(t, record)[:s.events])
-		parts, e := Parts(text(t, made))
+		made, _ := trace.Make(p, s.every, events(t, record)[:s.events])
+		parts, e := trace.Parts(text(t, made))
 		if !slices.Equal(kinds(parts), s.want) || e != api.OK {
 			t.Error(s, parts, e)
 		}
@@ -249,24 +252,24 @@ func TestKinds(t *testing.T) {
 // P23.3: encodings that are too long.
 func TestTooLong(t *testing.T) {
 	random := rand.New(rand.NewSource(23))
-	made := Trace{Every: 1}
+	made := trace.Trace{Every: 1}
 	for i := range 10 {
 		made.Events = append(made.Events, api.Event{Kind: api.EHalt})
 		seen := make([]uint64, 60000)
 		for j := range seen {
 			seen[j] = random.Uint64()
 		}
-		made.Marks = append(made.Marks, Mark{At: i + 1, State: api.State{Threads: []api.ThreadState{{Seen: seen}}}})
+		made.Marks = append(made.Marks, trace.Mark{At: i + 1, State: api.State{Threads: []api.ThreadState{{Seen: seen}}}})
 	}
-	if s, e := Print(made); s != "" || e != api.ErrLong {
+	if s, e := trace.Print(made); s != "" || e != api.ErrLong {
 		t.Error(len(s), e)
 	}
 	made.Events, made.Marks = made.Events[:6], made.Marks[:6]
-	s, e := Print(made)
+	s, e := trace.Print(made)
 	if e != api.OK {
 		t.Fatal(e)
 	}
-	if again, e := Read(s); e != api.OK || !reflect.DeepEqual(again.Marks, made.Marks) {
+	if again, e := trace.Read(s); e != api.OK || !reflect.DeepEqual(again.Marks, made.Marks) {
 		t.Error(e)
 	}
 }
@@ -275,7 +278,7 @@ func TestTooLong(t *testing.T) {
 func TestPartsErrors(t *testing.T) {
 	_, made := must2(t, 2)
 	s := text(t, made)
-	parts, _ := Parts(s)
+	parts, _ := trace.Parts(s)
 	for _, c := range []struct {
 		tail string
 		want api.Errno
@@ -286,31 +289,31 @@ func TestPartsErrors(t *testing.T) {
 		{"\x02" + varint.Print(1<<64-1), api.ErrEnd}, {"\x02" + varint.Print(1<<63) + "abcdefgh", api.ErrEnd},
 		{put(3, "ab")[:7], api.ErrEnd}, {put(3, "ab")[:3] + "c" + put(3, "ab")[4:], api.ErrSum},
 	} {
-		got, e := Parts(s + c.tail)
+		got, e := trace.Parts(s + c.tail)
 		if e != c.want || !slices.Equal(got, parts) {
 			t.Errorf("%x: %v %d", c.tail, got, e)
 		}
-		if got, e := Read(s + c.tail); e != c.want || !reflect.DeepEqual(got, Trace{}) {
+		if got, e := trace.Read(s + c.tail); e != c.want || !reflect.DeepEqual(got, trace.Trace{}) {
 			t.Errorf("%x: %d", c.tail, e)
 		}
-		if got, e := Parts(c.tail); e != c.want || len(got) != 0 {
+		if got, e := trace.Parts(c.tail); e != c.want || len(got) != 0 {
 			t.Errorf("%x: %v %d", c.tail, got, e)
 		}
 	}
-	if got, e := Parts(""); len(got) != 0 || e != api.OK {
+	if got, e := trace.Parts(""); len(got) != 0 || e != api.OK {
 		t.Error(got, e)
 	}
-	if got, e := Parts(put(4, "") + put(1, "x")); !slices.Equal(got, []Part{{4, 0, 6}, {1, 6, 7}}) || e != api.OK {
+	if got, e := trace.Parts(put(4, "") + put(1, "x")); !slices.Equal(got, []trace.Part{{4, 0, 6}, {1, 6, 7}}) || e != api.OK {
 		t.Error(got, e)
 	}
 	big := put(2, strings.Repeat("x", api.MaxBytes-9))
-	if got, e := Parts(big); len(big) != api.MaxBytes || len(got) != 1 || e != api.OK {
+	if got, e := trace.Parts(big); len(big) != api.MaxBytes || len(got) != 1 || e != api.OK {
 		t.Error(len(big), got, e)
 	}
-	if got, e := Parts(big + "\x00"); len(got) != 0 || e != api.ErrLong {
+	if got, e := trace.Parts(big + "\x00"); len(got) != 0 || e != api.ErrLong {
 		t.Error(got, e)
 	}
-	if _, e := Read(big + "\x00"); e != api.ErrLong {
+	if _, e := trace.Read(big + "\x00"); e != api.ErrLong {
 		t.Error(e)
 	}
 }
@@ -319,7 +322,7 @@ func TestPartsErrors(t *testing.T) {
 func TestReadErrors(t *testing.T) {
 	_, made := must2(t, 2)
 	s := text(t, made)
-	parts, _ := Parts(s)
+	parts, _ := trace.Parts(s)
 	var chunks []string
 	for _, p := range parts {
 		chunks = append(chunks, s[p.At:p.At+p.Size])
@@ -346,14 +349,14 @@ func TestReadErrors(t *testing.T) {
 		head + put(2, group+"\x00") + join(2, 3, 4, 5, 6), head + put(2, "") + join(2, 3, 4, 5, 6),
 		head + chunks[1] + put(3, "") + join(3, 4, 5, 6), head + chunks[1] + put(3, "\x02") + join(3, 4, 5, 6), head + chunks[1] + put(3, "\x03"+"\x00\x00\x00\x00\x00") + join(3, 4, 5, 6),
 	} {
-		if got, e := Read(wrong); e != api.ErrForm || !reflect.DeepEqual(got, Trace{}) {
+		if got, e := trace.Read(wrong); e != api.ErrForm || !reflect.DeepEqual(got, trace.Trace{}) {
 			t.Error(i, e)
 		}
 	}
-	if got, e := Read(head + put(4, "\x00\x01"+delta.Print([]uint64{uint64(len(head))}))); e != api.OK || got.Every != 2 {
+	if got, e := trace.Read(head + put(4, "\x00\x01"+delta.Print([]uint64{uint64(len(head))}))); e != api.OK || got.Every != 2 {
 		t.Error(got, e) // the chunks of a trace without events
 	}
-	if got, e := Read(s); e != api.OK || !reflect.DeepEqual(got, made) {
+	if got, e := trace.Read(s); e != api.OK || !reflect.DeepEqual(got, made) {
 		t.Error(e)
 	}
 }
@@ -362,16 +365,16 @@ func TestReadErrors(t *testing.T) {
 func TestChangedBytes(t *testing.T) {
 	_, made := must2(t, 2)
 	s := text(t, made)
-	parts, _ := Parts(s)
+	parts, _ := trace.Parts(s)
 	random := rand.New(rand.NewSource(24))
 	for i, part := range parts {
 		for at := part.At + 2; at < part.At+part.Size; at++ {
 			b := []byte(s)
 			b[at] ^= byte(1 + random.Intn(255))
-			if got, e := Parts(string(b)); !slices.Equal(got, parts[:i]) || e != api.ErrSum {
+			if got, e := trace.Parts(string(b)); !slices.Equal(got, parts[:i]) || e != api.ErrSum {
 				t.Fatal(i, at, got, e)
 			}
-			if _, e := Read(string(b)); e != api.ErrSum {
+			if _, e := trace.Read(string(b)); e != api.ErrSum {
 				t.Fatal(i, at, e)
 			}
 		}
@@ -381,7 +384,7 @@ func TestChangedBytes(t *testing.T) {
 // Rule 5: the events of a trace are a copy.
 func TestNothingIsShared(t *testing.T) {
 	l := events(t, record)
-	made, _ := Make(program(t, pair), 2, l)
+	made, _ := trace.Make(program(t, pair), 2, l)
 	l[0].Ticket = 9
 	if made.Events[0].Ticket != 0 {
 		t.Error(made.Events)

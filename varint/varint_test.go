@@ -1,4 +1,4 @@
-package varint
+package varint_test
 
 import (
 	"math/rand"
@@ -7,6 +7,7 @@ import (
 
 	"rondeau/api"
 	"rondeau/octet"
+	"rondeau/varint"
 )
 
 const top = 1<<64 - 1
@@ -30,14 +31,14 @@ var samples = []struct {
 // P2.1: numbers are printed, measured and read.
 func TestNumbers(t *testing.T) {
 	for _, s := range samples {
-		if got := Print(s.number); got != s.text {
+		if got := varint.Print(s.number); got != s.text {
 			t.Errorf("%d: %x, wanted %x", s.number, got, s.text)
 		}
-		if got := Size(s.number); got != len(s.text) {
+		if got := varint.Size(s.number); got != len(s.text) {
 			t.Errorf("%d: size %d, wanted %d", s.number, got, len(s.text))
 		}
 		r := octet.New(s.text + "\x05")
-		if n, e := Read(r); n != s.number || e != api.OK || r.Left() != 1 {
+		if n, e := varint.Read(r); n != s.number || e != api.OK || r.Left() != 1 {
 			t.Errorf("%x: %d %d, %d left", s.text, n, e, r.Left())
 		}
 	}
@@ -65,28 +66,28 @@ func TestWrongNumbers(t *testing.T) {
 		{nine + "\xff\x01", api.ErrForm, 10},
 	} {
 		r := octet.New(s.text)
-		if n, e := Read(r); n != 0 || e != s.want || r.At() != s.at {
+		if n, e := varint.Read(r); n != 0 || e != s.want || r.At() != s.at {
 			t.Errorf("%x: %d %d at %d", s.text, n, e, r.At())
 		}
 	}
-	if n, e := Read(nil); n != 0 || e != api.ErrNil {
+	if n, e := varint.Read(nil); n != 0 || e != api.ErrNil {
 		t.Error(n, e)
 	}
 }
 
 // P2.2: lists are their length and their numbers.
 func TestLists(t *testing.T) {
-	if got := PrintList([]uint64{300, 0}); got != "\x02\xac\x02\x00" {
+	if got := varint.PrintList([]uint64{300, 0}); got != "\x02\xac\x02\x00" {
 		t.Errorf("%x", got)
 	}
-	if got := PrintList(nil); got != "\x00" {
+	if got := varint.PrintList(nil); got != "\x00" {
 		t.Errorf("%x", got)
 	}
 	r := octet.New("\x02\xac\x02\x00\x07")
-	if l, e := ReadList(r, 2); len(l) != 2 || l[0] != 300 || l[1] != 0 || e != api.OK || r.Left() != 1 {
+	if l, e := varint.ReadList(r, 2); len(l) != 2 || l[0] != 300 || l[1] != 0 || e != api.OK || r.Left() != 1 {
 		t.Error(l, e, r.Left())
 	}
-	if l, e := ReadList(octet.New("\x00"), 0); len(l) != 0 || e != api.OK {
+	if l, e := varint.ReadList(octet.New("\x00"), 0); len(l) != 0 || e != api.OK {
 		t.Error(l, e)
 	}
 }
@@ -104,20 +105,20 @@ func TestWrongLists(t *testing.T) {
 		{"\x80\x00", 3, api.ErrForm},
 		{"\x04", 3, api.ErrLong},
 		{"\x01\x00", 0, api.ErrLong},
-		{Print(top), int(^uint(0) >> 1), api.ErrLong},
-		{Print(1 << 62), int(^uint(0) >> 1), api.ErrEnd},
+		{varint.Print(top), int(^uint(0) >> 1), api.ErrLong},
+		{varint.Print(1 << 62), int(^uint(0) >> 1), api.ErrEnd},
 		{"\x02\x01", 3, api.ErrEnd},
 		{"\x03\x01\x80\x00\x80", 3, api.ErrForm},
 		{"\x03\x01\x80", 3, api.ErrEnd},
 	} {
-		if l, e := ReadList(octet.New(s.text), s.most); len(l) != 0 || e != s.want {
+		if l, e := varint.ReadList(octet.New(s.text), s.most); len(l) != 0 || e != s.want {
 			t.Errorf("%x, at most %d: %v %d, wanted %d", s.text, s.most, l, e, s.want)
 		}
 	}
-	if _, e := ReadList(nil, -1); e != api.ErrArg {
+	if _, e := varint.ReadList(nil, -1); e != api.ErrArg {
 		t.Error(e)
 	}
-	if _, e := ReadList(nil, 1); e != api.ErrNil {
+	if _, e := varint.ReadList(nil, 1); e != api.ErrNil {
 		t.Error(e)
 	}
 }
@@ -132,8 +133,8 @@ func TestReadsWhatWasPrinted(t *testing.T) {
 		for i := range l {
 			l[i] = someNumber(random)
 		}
-		r := octet.New(PrintList(l) + "\x80")
-		got, e := ReadList(r, len(l))
+		r := octet.New(varint.PrintList(l) + "\x80")
+		got, e := varint.ReadList(r, len(l))
 		if e != api.OK || len(got) != len(l) || r.Left() != 1 {
 			t.Fatal(l, got, e)
 		}
@@ -143,7 +144,7 @@ func TestReadsWhatWasPrinted(t *testing.T) {
 			}
 		}
 		a, b := someNumber(random), someNumber(random)
-		if a != b && strings.HasPrefix(Print(a), Print(b)) {
+		if a != b && strings.HasPrefix(varint.Print(a), varint.Print(b)) {
 			t.Fatal(a, b)
 		}
 	}
@@ -158,8 +159,8 @@ func TestOnlyShortestForms(t *testing.T) {
 			text[i] = []byte{0, 1, 2, 127, 128, 129, 255}[random.Intn(7)]
 		}
 		r := octet.New(string(text))
-		n, e := Read(r)
-		if e == api.OK && Print(n) != string(text[:r.At()]) {
+		n, e := varint.Read(r)
+		if e == api.OK && varint.Print(n) != string(text[:r.At()]) {
 			t.Fatalf("%x: %d", text, n)
 		}
 		if e != api.OK && n != 0 {

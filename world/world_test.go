@@ -1,4 +1,4 @@
-package world
+package world_test
 
 import (
 	"reflect"
@@ -9,6 +9,7 @@ import (
 	"rondeau/event"
 	"rondeau/fabric"
 	"rondeau/listing"
+	"rondeau/world"
 )
 
 const top = 1<<64 - 1
@@ -63,7 +64,7 @@ func TestRun(t *testing.T) {
 		{"queue 1\nthread\nsend r1 r2 0 try\nsend r1 r2 0 wait\nthread\nrecv r1 r2 0 try 0\n", "0010010", "0 claim 0 0\n0 publish 0 0\n1 take 0 0\n0 claim 0 1\n1 release 0 0\n0 publish 0 1\n", 0, 1},
 		{"cast 1 2\nthread\nsend r1 r2 0 wait\nthread\nrecv r1 r2 0 wait 1\nrecv r1 r2 0 wait 1\n", "001111", "0 claim 0 0\n0 publish 0 0\n1 take 0 0\n1 release 0 0\n", 0, 2},
 	} {
-		result, e := Run(program(t, s.program), nil, picks(s.digits))
+		result, e := world.Run(program(t, s.program), nil, picks(s.digits))
 		if e != api.OK || text(t, result.Events) != s.want || result.Idle != s.idle || result.Waits != s.waits {
 			t.Errorf("%q %s: %q %d idle %d waits %d", s.program, s.digits, text(t, result.Events), e, result.Idle, result.Waits)
 		}
@@ -74,19 +75,19 @@ func TestRun(t *testing.T) {
 func TestEntries(t *testing.T) {
 	const timed = "queue 1\nthread\nrecv r1 r2 0 timed 0\nsend r1 r2 0 timed\nsend r1 r2 0 timed\nsee r2\n"
 	fire, hold := api.Entry{Fire: true}, api.Entry{}
-	result, _ := Run(program(t, timed), nil, []api.Entry{hold, fire, fire, fire, hold, fire, fire})
+	result, _ := world.Run(program(t, timed), nil, []api.Entry{hold, fire, fire, fire, hold, fire, fire})
 	if got := text(t, result.Events); got != "0 time 0\n0 claim 0 0\n0 publish 0 0\n0 time 0\n0 see 3\n" || result.Waits != 2 {
 		t.Error(got, result.Waits)
 	}
-	result, _ = Run(program(t, "queue 1\nthread\nrecv r1 r2 0 wait 0\n"), nil, []api.Entry{fire})
+	result, _ = world.Run(program(t, "queue 1\nthread\nrecv r1 r2 0 wait 0\n"), nil, []api.Entry{fire})
 	if len(result.Events) != 0 || result.Waits != 1 {
 		t.Error(result)
 	}
-	result, _ = Run(program(t, "queue 1\nthread\nrecv r1 r2 0 try 0\n"), nil, []api.Entry{fire})
+	result, _ = world.Run(program(t, "queue 1\nthread\nrecv r1 r2 0 try 0\n"), nil, []api.Entry{fire})
 	if got := text(t, result.Events); got != "0 no 0\n" {
 		t.Error(got)
 	}
-	result, _ = Run(program(t, "thread\nclock r1\nclock r1\nclock r1\ndraw r1\ndraw r1\n"), nil, []api.Entry{
+	result, _ = world.Run(program(t, "thread\nclock r1\nclock r1\nclock r1\ndraw r1\ndraw r1\n"), nil, []api.Entry{
 		{Clock: 5}, {Clock: 1 << 20}, {Clock: 1<<20 - 1, Draw: 3}, {Draw: top}, {Clock: 3},
 	})
 	if got := text(t, result.Events); got != "0 clock 5\n0 clock 5\n0 clock 1048580\n0 draw 18446744073709551615\n0 draw 0\n" {
@@ -97,26 +98,26 @@ func TestEntries(t *testing.T) {
 // P18.1: the tape is read in order, and ends.
 func TestTape(t *testing.T) {
 	p := program(t, "thread\nread r1 r2\njmp 0\nthread\nread r1 r2\nsee r2\n")
-	result, _ := Run(p, []uint64{7, 8}, picks("0100011"))
+	result, _ := world.Run(p, []uint64{7, 8}, picks("0100011"))
 	if got := text(t, result.Events); got != "0 read 7\n1 read 8\n0 end\n0 end\n0 end\n1 see 0\n1 halt\n" {
 		t.Error(got)
 	}
 	if !result.State.Ended || result.State.Reads != 2 {
 		t.Error(result.State)
 	}
-	result, _ = Run(p, nil, picks("11"))
+	result, _ = world.Run(p, nil, picks("11"))
 	if got := text(t, result.Events); got != "1 end\n1 see 1\n" {
 		t.Error(got)
 	}
 	// A tape that has ended stays so, whatever else is on the tape that is passed.
 	f, _ := fabric.New(p)
-	Step(f, nil, api.Entry{})
-	if e, ok := Offer(f, []uint64{7}, api.Entry{}); !ok || e != (api.Event{Kind: api.EEnd}) {
+	world.Step(f, nil, api.Entry{})
+	if e, ok := world.Offer(f, []uint64{7}, api.Entry{}); !ok || e != (api.Event{Kind: api.EEnd}) {
 		t.Error(e, ok)
 	}
 	f, _ = fabric.New(p)
-	Step(f, []uint64{7, 8}, api.Entry{})
-	if e, ok := Step(f, []uint64{1, 5, 3}, api.Entry{Pick: 1}); !ok || e != (api.Event{Thread: 1, Kind: api.ERead, Value: 5}) {
+	world.Step(f, []uint64{7, 8}, api.Entry{})
+	if e, ok := world.Step(f, []uint64{1, 5, 3}, api.Entry{Pick: 1}); !ok || e != (api.Event{Thread: 1, Kind: api.ERead, Value: 5}) {
 		t.Error(e, ok)
 	}
 }
@@ -127,57 +128,40 @@ func TestOfferAndStep(t *testing.T) {
 	before := f.State()
 	want := api.Event{Kind: api.EClaim}
 	for range 2 {
-		if e, ok := Offer(f, nil, api.Entry{}); e != want || !ok || !reflect.DeepEqual(f.State(), before) {
+		if e, ok := world.Offer(f, nil, api.Entry{}); e != want || !ok || !reflect.DeepEqual(f.State(), before) {
 			t.Error(e, ok)
 		}
 	}
 	for _, pick := range []int{1, 2, -1, 8} {
-		if e, ok := Offer(f, nil, api.Entry{Pick: pick}); e != (api.Event{}) || ok {
+		if e, ok := world.Offer(f, nil, api.Entry{Pick: pick}); e != (api.Event{}) || ok {
 			t.Error(pick, e, ok)
 		}
-		if e, ok := Step(f, nil, api.Entry{Pick: pick}); e != (api.Event{}) || ok || !reflect.DeepEqual(f.State(), before) {
+		if e, ok := world.Step(f, nil, api.Entry{Pick: pick}); e != (api.Event{}) || ok || !reflect.DeepEqual(f.State(), before) {
 			t.Error(pick, e, ok)
 		}
 	}
-	if e, ok := Step(f, nil, api.Entry{}); e != want || !ok || f.State().Rings[0].Tail != 1 {
+	if e, ok := world.Step(f, nil, api.Entry{}); e != want || !ok || f.State().Rings[0].Tail != 1 {
 		t.Error(e, ok)
 	}
-	if e, ok := Offer(nil, nil, api.Entry{}); e != (api.Event{}) || ok {
+	if e, ok := world.Offer(nil, nil, api.Entry{}); e != (api.Event{}) || ok {
 		t.Error(e, ok)
 	}
-	if e, ok := Step(nil, nil, api.Entry{}); e != (api.Event{}) || ok {
+	if e, ok := world.Step(nil, nil, api.Entry{}); e != (api.Event{}) || ok {
 		t.Error(e, ok)
 	}
 }
 
-// P18.1: what the machine can't do is not offered: a clock past the greatest
-// number, and a ticket past the last one.
-func TestOfferAtTheEnds(t *testing.T) {
-	p := program(t, "queue 1\nthread\nclock r1\nthread\nsend r1 r2 0 wait\nsend r1 r2 0 wait\nthread\nrecv r1 r2 0 wait 0\nthread\nclose 0\n")
-	last := uint64(1<<62 - 1)
-	f, e := fabric.Load(p, api.State{
-		Threads: make([]api.ThreadState, 4),
-		Rings:   []api.RingState{{Tail: last, Heads: []uint64{last}, Slots: []api.Slot{{Stamp: 2 * last}}}},
-		Now:     top - 5,
-	})
+// P18.1: a clock past the greatest number is not offered.
+func TestLastClock(t *testing.T) {
+	f, e := fabric.Load(program(t, "thread\nclock r1\n"), api.State{Threads: make([]api.ThreadState, 1), Now: top - 5})
 	if e != api.OK {
 		t.Fatal(e)
 	}
-	if e, ok := Offer(f, nil, api.Entry{Clock: 6}); e != (api.Event{}) || ok {
+	if e, ok := world.Offer(f, nil, api.Entry{Clock: 6}); e != (api.Event{}) || ok {
 		t.Error(e, ok)
 	}
-	if e, ok := Offer(f, nil, api.Entry{Clock: 5}); e.Value != top || !ok {
+	if e, ok := world.Offer(f, nil, api.Entry{Clock: 5}); e.Value != top || !ok {
 		t.Error(e, ok)
-	}
-	for _, pick := range []int{1, 1, 2, 2} {
-		if e, ok := Step(f, nil, api.Entry{Pick: pick}); !ok {
-			t.Error(e)
-		}
-	}
-	for _, pick := range []int{1, 3} {
-		if e, ok := Step(f, nil, api.Entry{Pick: pick}); ok {
-			t.Error(e)
-		}
 	}
 }
 
@@ -196,8 +180,8 @@ func TestRunErrors(t *testing.T) {
 		{halt, make([]uint64, 65537), nil, api.ErrLong},
 		{halt, make([]uint64, 65536), long[1:], api.OK},
 	} {
-		r, e := Run(s.program, s.tape, s.script)
-		if e != s.want || e != api.OK && !reflect.DeepEqual(r, Result{}) {
+		r, e := world.Run(s.program, s.tape, s.script)
+		if e != s.want || e != api.OK && !reflect.DeepEqual(r, world.Result{}) {
 			t.Error(len(s.script), e)
 		}
 	}
@@ -207,16 +191,16 @@ func TestRunErrors(t *testing.T) {
 func TestMake(t *testing.T) {
 	p := program(t, "queue 1\nthread\nclock r1\nclock r1\ndraw r1\nread r1 r2\nrecv r1 r2 0 timed 0\nread r1 r2\nthread\nread r1 r2\n")
 	l, _, _ := event.Read("0 clock 5\n0 clock 15\n0 draw 9\n0 read 4\n1 read 6\n0 time 0\n0 end\n1 halt\n")
-	tape, script, e := Make(p, l)
+	tape, script, e := world.Make(p, l)
 	want := []api.Entry{{Clock: 5}, {Clock: 10}, {Draw: 9}, {}, {Pick: 1}, {Fire: true}, {}, {Pick: 1}}
 	if e != api.OK || !slices.Equal(tape, []uint64{4, 6}) || !slices.Equal(script, want) {
 		t.Error(tape, script, e)
 	}
-	result, _ := Run(p, tape, script)
+	result, _ := world.Run(p, tape, script)
 	if !event.Same(result.Events, l) || result.Idle+result.Waits != 0 {
 		t.Error(result)
 	}
-	if tape, script, e := Make(p, nil); e != api.OK || len(tape)+len(script) != 0 {
+	if tape, script, e := world.Make(p, nil); e != api.OK || len(tape)+len(script) != 0 {
 		t.Error(tape, script, e)
 	}
 }
@@ -238,7 +222,7 @@ func TestMakeErrors(t *testing.T) {
 		{p, []api.Event{{Kind: 99}}, api.ErrOrder},
 		{p, []api.Event{{Kind: api.ERead, Value: 3}, {}}, api.ErrOrder},
 	} {
-		tape, script, e := Make(s.program, s.events)
+		tape, script, e := world.Make(s.program, s.events)
 		if e != s.want || len(tape)+len(script) != 0 {
 			t.Error(s.want, tape, script, e)
 		}
