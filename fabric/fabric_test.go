@@ -63,6 +63,9 @@ func TestNew(t *testing.T) {
 	if ask, e := f.Ask(1); ask != (thread.Ask{Kind: thread.Recv, Mode: 1}) || e != api.OK {
 		t.Error(ask, e)
 	}
+	if f.Ring(0) == nil || f.Ring(1) != nil {
+		t.Error("one ring")
+	}
 	for _, i := range []int{-1, 2, 8} {
 		if ask, e := f.Ask(i); ask != (thread.Ask{}) || e != api.ErrRange {
 			t.Error(i, ask, e)

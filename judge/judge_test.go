@@ -129,6 +129,7 @@ func TestStuck(t *testing.T) {
 		{"queue 1\nthread\nrecv r1 r2 0 timed 0\n", "", false},
 		{"thread\nhalt\n", "0 halt\n", false}, // none runs
 		{"thread\njmp 0\n", "0 spin\n", false},
+		{"thread\njmp 0\n", "", false},
 		{"queue 1\nthread\nrecv r1 r2 0 wait 0\nthread\nhalt\n", "1 halt\n", true},
 		{"queue 1\nthread\nrecv r1 r2 0 wait 0\nthread\nhalt\n", "", false},
 	} {

@@ -24,8 +24,8 @@ func must(t *testing.T, spec api.Ring) *model.Model {
 // P14.1: a queue of one value.
 func TestQueue(t *testing.T) {
 	m := must(t, api.Ring{Kind: 1, Cap: 1, Readers: 1})
-	if _, e := m.Get(0); e != api.ErrEmpty {
-		t.Error(e)
+	if v, e := m.Get(0); v != 0 || e != api.ErrEmpty {
+		t.Error(v, e)
 	}
 	if n, e := m.Put(7); n != 0 || e != api.OK {
 		t.Error(n, e)
@@ -48,14 +48,14 @@ func TestQueue(t *testing.T) {
 	if e := m.Close(); e != api.OK || m.Close() != api.OK {
 		t.Error(e)
 	}
-	if _, e := m.Put(1); e != api.ErrClosed {
-		t.Error(e) // before ErrFull
+	if n, e := m.Put(1); n != 0 || e != api.ErrClosed {
+		t.Error(n, e) // before ErrFull
 	}
 	if v, e := m.Get(0); v != 9 || e != api.OK {
 		t.Error(v, e)
 	}
-	if _, e := m.Get(0); e != api.ErrClosed {
-		t.Error(e)
+	if v, e := m.Get(0); v != 0 || e != api.ErrClosed {
+		t.Error(v, e)
 	}
 	if _, e := m.Put(1); e != api.ErrClosed {
 		t.Error(e)
@@ -78,9 +78,9 @@ func TestErrors(t *testing.T) {
 		}
 	}
 	var none *model.Model
-	_, e1 := none.Put(1)
-	_, e2 := none.Get(-1)
-	if e1 != api.ErrNil || e2 != api.ErrNil || none.Close() != api.ErrNil || len(none.Rest(0)) != 0 {
+	n, e1 := none.Put(1)
+	v, e2 := none.Get(-1)
+	if n != 0 || v != 0 || e1 != api.ErrNil || e2 != api.ErrNil || none.Close() != api.ErrNil || len(none.Rest(0)) != 0 {
 		t.Error(e1, e2)
 	}
 }

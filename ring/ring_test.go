@@ -58,8 +58,8 @@ func TestNew(t *testing.T) {
 // P13.1: the two steps of sends and receives on a queue.
 func TestSteps(t *testing.T) {
 	r := must(t, 1, 1, 1)
-	if _, e := r.Take(0); e != api.ErrEmpty {
-		t.Error(e)
+	if n, e := r.Take(0); n != 0 || e != api.ErrEmpty {
+		t.Error(n, e)
 	}
 	if e := r.Publish(0, 7); e != api.ErrOrder {
 		t.Error(e)
@@ -70,8 +70,8 @@ func TestSteps(t *testing.T) {
 	if n, e := r.Claim(); n != 0 || e != api.ErrFull {
 		t.Error(n, e)
 	}
-	if _, e := r.Release(0, 0); e != api.ErrOrder {
-		t.Error(e)
+	if v, e := r.Release(0, 0); v != 0 || e != api.ErrOrder {
+		t.Error(v, e)
 	}
 	if n, e := r.Take(0); n != 0 || e != api.OK || r.Head(0) != 1 || !r.Empty(0) || r.Full() {
 		t.Error(n, e)
@@ -119,8 +119,8 @@ func TestClose(t *testing.T) {
 	if e := r.Close(); e != api.OK {
 		t.Error(e)
 	}
-	if _, e := r.Claim(); e != api.ErrClosed {
-		t.Error(e) // before ErrFull
+	if n, e := r.Claim(); n != 0 || e != api.ErrClosed {
+		t.Error(n, e) // before ErrFull
 	}
 	if e := r.Publish(0, 7); e != api.OK {
 		t.Error(e)
@@ -128,8 +128,8 @@ func TestClose(t *testing.T) {
 	if n, e := r.Take(0); n != 0 || e != api.OK {
 		t.Error(n, e)
 	}
-	if _, e := r.Take(0); e != api.ErrClosed {
-		t.Error(e)
+	if n, e := r.Take(0); n != 0 || e != api.ErrClosed {
+		t.Error(n, e)
 	}
 	if v, e := r.Release(0, 0); v != 7 || e != api.OK {
 		t.Error(v, e)
@@ -150,11 +150,11 @@ func TestNoReader(t *testing.T) {
 	r.Take(0)
 	r.Close()
 	for _, j := range []int{-1, 2, 8, 64, -1 << 63} {
-		if _, e := r.Take(j); e != api.ErrArg {
-			t.Error(j, e)
+		if n, e := r.Take(j); n != 0 || e != api.ErrArg {
+			t.Error(j, n, e)
 		}
-		if _, e := r.Release(j, 9); e != api.ErrArg {
-			t.Error(j, e)
+		if v, e := r.Release(j, 9); v != 0 || e != api.ErrArg {
+			t.Error(j, v, e)
 		}
 		if !r.Empty(j) || r.Has(j, 0) || r.Head(j) != 0 {
 			t.Error(j)
@@ -201,10 +201,10 @@ func TestCast(t *testing.T) {
 // P13.1: a nil ring.
 func TestNil(t *testing.T) {
 	var r *ring.Ring
-	_, e1 := r.Claim()
-	_, e2 := r.Take(-1)
-	_, e3 := r.Release(-1, top)
-	if e1 != api.ErrNil || e2 != api.ErrNil || e3 != api.ErrNil || r.Publish(top, 0) != api.ErrNil || r.Close() != api.ErrNil {
+	n1, e1 := r.Claim()
+	n2, e2 := r.Take(-1)
+	n3, e3 := r.Release(-1, top)
+	if n1 != 0 || n2 != 0 || n3 != 0 || e1 != api.ErrNil || e2 != api.ErrNil || e3 != api.ErrNil || r.Publish(top, 0) != api.ErrNil || r.Close() != api.ErrNil {
 		t.Error(e1, e2, e3)
 	}
 	if r.Full() || r.Empty(0) || r.Empty(-1) || r.Free(0) || r.Has(0, 0) || r.Closed() || r.Tail() != 0 || r.Head(0) != 0 {

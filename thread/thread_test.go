@@ -31,6 +31,16 @@ func next(t *testing.T, l []api.Instr, s api.ThreadState) (api.ThreadState, thre
 	return n, ask
 }
 
+// The numbers of requests.
+func TestKinds(t *testing.T) {
+	kinds := []int{thread.None, thread.Send, thread.Recv, thread.Close, thread.Clock, thread.Draw, thread.Read, thread.See, thread.Halt, thread.Spin, thread.Publish, thread.Release}
+	for want, kind := range kinds {
+		if kind != want {
+			t.Error(kind, want)
+		}
+	}
+}
+
 // P16.1: instructions that a thread can have.
 func TestCode(t *testing.T) {
 	for _, s := range []struct {

@@ -274,6 +274,47 @@ func TestTooLong(t *testing.T) {
 	}
 }
 
+// sized returns a trace whose encoding has just so many bytes: one that is
+// nearly so long, with some of the numbers that a thread saw made longer.
+func sized(t *testing.T, size int) trace.Trace {
+	t.Helper()
+	made := trace.Trace{Every: 1}
+	for i := range 7 {
+		made.Events = append(made.Events, api.Event{Kind: api.EHalt})
+		seen := slices.Repeat([]uint64{1<<63 + 1}, 60000)
+		made.Marks = append(made.Marks, trace.Mark{At: i + 1, State: api.State{Threads: []api.ThreadState{{Seen: seen}}}})
+	}
+	longer := made.Marks[6].State.Threads[0].Seen
+	for i := range longer {
+		longer[i] = 0
+	}
+	left := size - len(text(t, made))
+	for i := range longer {
+		step := min(left, 9)
+		if step <= 0 {
+			break
+		}
+		longer[i] = 1 << (7 * step)
+		left -= step
+	}
+	return made
+}
+
+// P23.3, P23.4: encodings that are just short enough, and by one byte too long.
+func TestLongest(t *testing.T) {
+	made := sized(t, api.MaxBytes)
+	s, e := trace.Print(made)
+	if len(s) != api.MaxBytes || e != api.OK {
+		t.Fatal(len(s), e)
+	}
+	if again, e := trace.Read(s); e != api.OK || !reflect.DeepEqual(again.Marks, made.Marks) {
+		t.Error(e)
+	}
+	if s, e := trace.Print(sized(t, api.MaxBytes+1)); s != "" || e != api.ErrLong {
+		t.Error(len(s), e)
+	}
+}
+
 // P23.4: what is no chunk, and what comes before it.
 func TestPartsErrors(t *testing.T) {
 	_, made := must2(t, 2)
